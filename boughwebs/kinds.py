@@ -1,0 +1,148 @@
+"""Kinds on good nets: which roots, each how often; maps and joinings told by the form."""
+
+from boughwebs.checks import is_list, is_number
+from boughwebs.errors import BadKind, BadRow, TooMany
+from boughwebs.nets import check_row, sink_order, unit_row
+from boughwebs.roots import around, check_good, is_root, mirrored_row, pair_value, roots
+
+MOST_KINDS = 3000
+
+
+def _are_counted(net, thing):
+    if not isinstance(thing, dict):
+        return False
+    return all([is_root(net, root) and is_number(many) and many > 0 for root, many in thing.items()])
+
+
+def is_kind(net, thing):
+    """Whether thing, which may be anything, is a dict from roots to numbers from 1 on."""
+    check_good(net)
+    return _are_counted(net, thing)
+
+
+def check_kind(net, kind):
+    """BadKind unless kind is a kind of this good net."""
+    if not _are_counted(net, kind):
+        raise BadKind("a dict from roots to numbers from 1 on is wanted")
+
+
+def kind_of_pairs(pairs):
+    """The dict of pairs (root, number) with ascending keys; roots that come again are put together."""
+    found = {}
+    for root, many in sorted(pairs):
+        found[root] = found.get(root, 0) + many
+    return found
+
+
+def kind_row(net, kind):
+    """The sum of the roots, each as often as told."""
+    check_good(net)
+    check_kind(net, kind)
+    return tuple([sum([root[place] * many for root, many in kind.items()]) for place in range(net.places)])
+
+
+def sum_kind(net, kinds):
+    """All kinds of a list put together."""
+    check_good(net)
+    if not is_list(kinds) or len(kinds) == 0:
+        raise BadKind("a list of one or more kinds is wanted")
+    for kind in kinds:
+        check_kind(net, kind)
+    return kind_of_pairs([(root, kind[root]) for kind in kinds for root in kind])
+
+
+def _taken(row, root, many):
+    return tuple([a - many * b for a, b in zip(row, root)])
+
+
+def _most_within(row, root):
+    """How often the root can be taken from the row."""
+    return min([a // b for a, b in zip(row, root) if b])
+
+
+def _with_root(started, root):
+    """All begun kinds, each with the root taken from what is left as often as can be.
+
+    What is left can always be made of rows of sum 1, so no more may be begun than there are kinds.
+    """
+    found = []
+    for left, pairs in started:
+        for many in range(_most_within(left, root) + 1):
+            if len(found) == MOST_KINDS:
+                raise TooMany(MOST_KINDS)
+            found.append((_taken(left, root, many), pairs + [(root, many)] if many else pairs))
+    return found
+
+
+def kinds_of(net, row):
+    """All kinds of this row, ascending as the tuples of their pairs."""
+    check_good(net)
+    check_row(net, row)
+    if min(row) < 0:
+        return []
+    started = [(row, [])]
+    for root in roots(net)[net.places:]:
+        started = _with_root(started, root)
+    units = [unit_row(net, place) for place in range(net.places)]
+    found = [tuple(sorted(pairs + [(unit, many) for unit, many in zip(units, left) if many]))
+             for left, pairs in started]
+    return [kind_of_pairs(pairs) for pairs in sorted(found)]
+
+
+def _pair_sum(net, one, other, sign):
+    """The sum of sign times pair_form over all pairs of roots where that is above 0."""
+    return sum([many * often * max(0, sign * pair_value(net, root, second))
+                for root, many in one.items() for second, often in other.items()])
+
+
+def maps_of_kinds(net, one, other):
+    """How many maps lead from a web of one kind to one of the other, over every prime."""
+    check_good(net)
+    check_kind(net, one)
+    check_kind(net, other)
+    return _pair_sum(net, one, other, 1)
+
+
+def joinings_of_kinds(net, one, other):
+    """How many joinings there are of one kind to the other."""
+    check_good(net)
+    check_kind(net, one)
+    check_kind(net, other)
+    return _pair_sum(net, one, other, -1)
+
+
+def _mirrored_back(net, done, row):
+    """The row mirrored at the places done, the last one first."""
+    for place in reversed(done):
+        row = mirrored_row(net, place, row)
+    return row
+
+
+def general_kind(net, row):
+    """The one kind of this row without joinings with itself.
+
+    Webs in general give as much at a sink as can be: what the room has more than all that leads in
+    splits off as points, and the mirrored rest is general again. So mirrors at one sink after
+    another take all away, each split point being a root that is mirrored back.
+    """
+    check_good(net)
+    check_row(net, row)
+    if min(row) < 0:
+        raise BadRow("numbers from 0 on are wanted")
+    order = sink_order(net)
+    left = list(row)
+    done = []
+    pairs = []
+    while any(left):
+        for place in order:
+            more = left[place] - around(net, place, left)
+            if more > 0:
+                pairs.append((_mirrored_back(net, done, unit_row(net, place)), more))
+            left[place] = max(0, 0 - more)
+            done.append(place)
+    return kind_of_pairs(pairs)
+
+
+def is_general(net, kind):
+    """Whether the kind has no joinings with itself."""
+    return joinings_of_kinds(net, kind, kind) == 0

@@ -1,0 +1,156 @@
+"""Maps between webs, and the webs of what they lead to 0, of what they give, of what they leave."""
+
+from boughwebs.errors import BadMaps, TooMany
+from boughwebs.solving import is_whole, kernel, kernel_columns, leading_columns, left_over, reduced
+from boughwebs.solving import solved, solved_across
+from boughwebs.tables import Table, is_sized, times
+from boughwebs.webs import Web, check_together
+
+MOST_NUMBERS = 300
+MOST_PLACES = 8
+
+
+def _are_between(one, other, thing):
+    """Whether thing is a tuple of Tables from the rooms of one to those of other."""
+    if not isinstance(thing, tuple) or len(thing) != one.net.places:
+        return False
+    return all([is_sized(table, one.prime, tall, wide)
+                for table, tall, wide in zip(thing, other.sizes, one.sizes)])
+
+
+def leads(one, other, thing):
+    """Whether thing, which may be anything, is a map between these webs of one net and prime."""
+    if not _are_between(one, other, thing):
+        return False
+    return all([times(thing[head], one.tables[at]) == times(other.tables[at], thing[tail])
+                for at, (tail, head) in enumerate(one.net.arrows)])
+
+
+def is_map(one, other, thing):
+    """Whether thing, which may be anything, is a map from one to other."""
+    check_together(one, other)
+    return leads(one, other, thing)
+
+
+def check_map(one, other, mapping):
+    """BadMaps unless mapping is a map from one to other, after what check_together raises."""
+    check_together(one, other)
+    if not leads(one, other, mapping):
+        raise BadMaps("a map between these webs is wanted")
+
+
+def offsets(one, other):
+    """How many numbers of a map stand ahead of each place, and, as the last one, how many in all."""
+    found = [0]
+    for a, b in zip(one.sizes, other.sizes):
+        found.append(found[-1] + a * b)
+    return found
+
+
+def _arrow_equations(one, other, at, starts):
+    """The equations along arrow `at`, line by line, as dicts without noughts from the numbers of a map."""
+    tail, head = one.net.arrows[at]
+    rows = []
+    for line in range(other.sizes[head]):
+        ahead = starts[head] + line * one.sizes[head]
+        for column in range(one.sizes[tail]):
+            row = {ahead + k: one.tables[at].lines[k][column] for k in range(one.sizes[head])}
+            for k in range(other.sizes[tail]):
+                row[starts[tail] + k * one.sizes[tail] + column] = one.prime - other.tables[at].lines[line][k]
+            rows.append({k: row[k] % one.prime for k in row if row[k] % one.prime})
+    return rows
+
+
+def equations(one, other):
+    """All equations for the numbers of a map, arrow by arrow, line by line."""
+    starts = offsets(one, other)
+    return [row for at in range(len(one.net.arrows)) for row in _arrow_equations(one, other, at, starts)]
+
+
+def map_of_numbers(one, other, numbers):
+    """The tuple of Tables with these numbers, told place by place, line by line."""
+    starts = offsets(one, other)
+    tables = []
+    for place, (wide, tall) in enumerate(zip(one.sizes, other.sizes)):
+        lines = [numbers[starts[place] + k * wide:starts[place] + (k + 1) * wide] for k in range(tall)]
+        tables.append(Table(one.prime, tall, wide, lines))
+    return tuple(tables)
+
+
+def _check_numbers(one, other):
+    check_together(one, other)
+    if offsets(one, other)[-1] > MOST_NUMBERS:
+        raise TooMany(MOST_NUMBERS)
+
+
+def maps(one, other):
+    """The maps from one to other of which all others are sums of multiples, in told order."""
+    _check_numbers(one, other)
+    columns = kernel_columns(offsets(one, other)[-1], reduced(one.prime, equations(one, other)))
+    return [map_of_numbers(one, other, column) for column in columns]
+
+
+def count_maps(one, other):
+    """How many maps `maps` tells."""
+    _check_numbers(one, other)
+    return offsets(one, other)[-1] - len(reduced(one.prime, equations(one, other)))
+
+
+def _are_maps(thing):
+    """Whether thing could be a map of some webs."""
+    if not isinstance(thing, tuple) or not 1 <= len(thing) <= MOST_PLACES:
+        return False
+    if not all([isinstance(table, Table) for table in thing]):
+        return False
+    return all([table.prime == thing[0].prime for table in thing])
+
+
+def behind(one, other):
+    """The map that does one and then other."""
+    if not _are_maps(one) or not _are_maps(other) or len(one) != len(other):
+        raise BadMaps("two maps are wanted")
+    for first, second in zip(one, other):
+        if first.prime != second.prime or first.tall != second.wide:
+            raise BadMaps("these cannot be done one behind the other")
+    return tuple([times(second, first) for first, second in zip(one, other)])
+
+
+def is_alike(one, other, thing):
+    """Whether thing, which may be anything, is a map from one to other with inverses."""
+    check_together(one, other)
+    return leads(one, other, thing) and all([is_whole(table) for table in thing])
+
+
+def web_into(web, columns):
+    """The web that the columns, which all arrows lead into themselves, are a map from into web."""
+    tables = [solved(columns[head], times(table, columns[tail]))
+              for table, (tail, head) in zip(web.tables, web.net.arrows)]
+    return Web(web.net, web.prime, tuple([table.wide for table in columns]), tables)
+
+
+def web_onto(web, lines):
+    """The web that the lines are a map to from web, onto it."""
+    tables = [solved_across(lines[tail], times(lines[head], table))
+              for table, (tail, head) in zip(web.tables, web.net.arrows)]
+    return Web(web.net, web.prime, tuple([table.tall for table in lines]), tables)
+
+
+def kernel_web(one, other, mapping):
+    """What the map leads to 0, with its map into one."""
+    check_map(one, other, mapping)
+    columns = tuple([kernel(table) for table in mapping])
+    return (web_into(one, columns), columns)
+
+
+def image_web(one, other, mapping):
+    """What the map gives, with its map into other."""
+    check_map(one, other, mapping)
+    columns = tuple([leading_columns(table) for table in mapping])
+    return (web_into(other, columns), columns)
+
+
+def rest_web(one, other, mapping):
+    """What is left of other without what the map gives, with the map onto it."""
+    check_map(one, other, mapping)
+    lines = tuple([left_over(table) for table in mapping])
+    return (web_onto(other, lines), lines)

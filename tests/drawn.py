@@ -1,0 +1,129 @@
+"""What several tests need: nets with names, drawn webs, all tables one by one."""
+
+from itertools import product
+from random import Random
+
+from boughwebs.maps import maps
+from boughwebs.nets import Net
+from boughwebs.solving import is_whole
+from boughwebs.tables import Table
+from boughwebs.webs import Web
+
+ONE = Net(1, [])
+STEP = Net(2, [(0, 1)])
+STRAIGHT = Net(3, [(0, 1), (1, 2)])
+CLASH = Net(3, [(0, 1), (2, 1)])
+SPREAD = Net(3, [(1, 0), (1, 2)])
+STAR = Net(4, [(0, 3), (1, 3), (2, 3)])
+PAIR = Net(2, [(0, 1), (0, 1)])
+TRIPLE = Net(2, [(0, 1), (0, 1), (0, 1)])
+RING = Net(3, [(0, 1), (1, 2), (0, 2)])
+SQUARE = Net(4, [(0, 1), (1, 2), (0, 3), (3, 2)])
+FIVE = Net(5, [(0, 4), (1, 4), (4, 2), (4, 3)])
+ARMS_SIX = Net(6, [(0, 1), (1, 2), (3, 2), (4, 3), (2, 5)])
+GOOD = [ONE, STEP, STRAIGHT, CLASH, SPREAD, STAR, ARMS_SIX]
+NETS = GOOD + [PAIR, TRIPLE, RING, SQUARE, FIVE]
+
+
+def arms_net(lengths, turned=()):
+    """A star with arms of these lengths; arrows lead to place 0, but for those with these indexes."""
+    arrows, places = [], 1
+    for length in lengths:
+        ahead = 0
+        for _ in range(length):
+            arrows.append((places, ahead))
+            ahead, places = places, places + 1
+    return Net(places, [arrow[::-1] if at in turned else arrow for at, arrow in enumerate(arrows)])
+
+
+def renamed(draw, net):
+    """The net with its places named anew, its arrows in another order and direction, without a way back."""
+    names = list(range(net.places))
+    draw.shuffle(names)
+    arrows = [(names[tail], names[head]) for tail, head in net.arrows]
+    heights = list(range(net.places))
+    draw.shuffle(heights)
+    arrows = [(a, b) if heights[a] < heights[b] else (b, a) for a, b in arrows]
+    draw.shuffle(arrows)
+    return Net(net.places, arrows)
+
+
+def drawn_net(draw, places, arrows):
+    """A net of so many places with a tree and, beyond that, up to so many arrows."""
+    ends = [(draw.randrange(place), place) for place in range(1, places)]
+    while places > 1 and len(ends) < arrows:
+        ends.append(tuple(draw.sample(range(places), 2)))
+    plain_net = Net(places, [(min(pair), max(pair)) for pair in ends])
+    return renamed(draw, plain_net)
+
+
+def drawn_table(draw, prime, tall, wide, density=1):
+    lines = [[draw.randrange(prime) if draw.random() < density else 0 for _ in range(wide)] for _ in range(tall)]
+    return Table(prime, tall, wide, lines)
+
+
+def drawn_web(draw, net, prime, sizes, density=0.7):
+    tables = [drawn_table(draw, prime, sizes[head], sizes[tail], density) for tail, head in net.arrows]
+    return Web(net, prime, tuple(sizes), tables)
+
+
+def drawn_sizes(draw, net, most):
+    return tuple(draw.randrange(most + 1) for _ in range(net.places))
+
+
+def drawn_map(draw, one, other):
+    """Some map from one to other: a sum of multiples of those that maps tells."""
+    found = [[[0] * a for _ in range(b)] for a, b in zip(one.sizes, other.sizes)]
+    for told in maps(one, other):
+        many = draw.randrange(one.prime)
+        for lines, table in zip(found, told):
+            for k, line in enumerate(table.lines):
+                lines[k] = [a + many * b for a, b in zip(lines[k], line)]
+    return tuple(Table(one.prime, b, a, lines) for lines, a, b in zip(found, one.sizes, other.sizes))
+
+
+def drawn_whole(draw, prime, size):
+    """Some table with an inverse."""
+    while True:
+        table = drawn_table(draw, prime, size, size)
+        if is_whole(table):
+            return table
+
+
+def drawn(seed):
+    return Random(seed)
+
+
+def all_tables(prime, tall, wide):
+    """All tables of this size, one by one."""
+    for numbers in product(range(prime), repeat=tall * wide):
+        yield Table(prime, tall, wide, [numbers[k * wide:(k + 1) * wide] for k in range(tall)])
+
+
+def plain_times(one, two, prime):
+    """The product of two lists of lines, told by the plainest loop."""
+    wide = len(two[0]) if two else 0
+    found = [[0] * wide for _ in one]
+    for i, line in enumerate(one):
+        for j in range(wide):
+            for k, number in enumerate(line):
+                found[i][j] = (found[i][j] + number * two[k][j]) % prime
+    return found
+
+
+def leads_plainly(one, other, tables):
+    """Whether tables of these sizes are a map, judged number by number."""
+    for at, (tail, head) in enumerate(one.net.arrows):
+        for i in range(other.sizes[head]):
+            for j in range(one.sizes[tail]):
+                there = sum(tables[head].lines[i][k] * one.tables[at].lines[k][j] for k in range(one.sizes[head]))
+                back = sum(other.tables[at].lines[i][k] * tables[tail].lines[k][j] for k in range(other.sizes[tail]))
+                if (there - back) % one.prime:
+                    return False
+    return True
+
+
+def all_maps(one, other):
+    """All maps from one to other, found by trying all tables."""
+    rooms = [list(all_tables(one.prime, b, a)) for a, b in zip(one.sizes, other.sizes)]
+    return [tables for tables in product(*rooms) if leads_plainly(one, other, tables)]
