@@ -3,7 +3,7 @@
 from boughwebs.checks import is_list, is_number
 from boughwebs.errors import BadKind, BadRow, TooMany
 from boughwebs.nets import check_row, sink_order, unit_row
-from boughwebs.roots import around, check_good, is_root, mirrored_row, pair_value, roots
+from boughwebs.roots import around, check_good, form_ahead, is_root, mirrored_row, roots
 
 MOST_KINDS = 3000
 
@@ -51,26 +51,73 @@ def sum_kind(net, kinds):
     return kind_of_pairs([(root, kind[root]) for kind in kinds for root in kind])
 
 
-def _taken(row, root, many):
-    return tuple([a - many * b for a, b in zip(row, root)])
-
-
-def _most_within(row, root):
-    """How often the root can be taken from the row."""
-    return min([a // b for a, b in zip(row, root) if b])
-
-
-def _with_root(started, root):
-    """All begun kinds, each with the root taken from what is left as often as can be.
-
-    What is left can always be made of rows of sum 1, so no more may be begun than there are kinds.
-    """
+def _arrows_apart(net):
+    """Arrows no two of which share a place."""
     found = []
-    for left, pairs in started:
-        for many in range(_most_within(left, root) + 1):
-            if len(found) == MOST_KINDS:
-                raise TooMany(MOST_KINDS)
-            found.append((_taken(left, root, many), pairs + [(root, many)] if many else pairs))
+    for tail, head in net.arrows:
+        if not any([place in (tail, head) for arrow in found for place in arrow]):
+            found.append((tail, head))
+    return found
+
+
+def _endings(left, apart):
+    """In how many ways the roots of arrows apart can be taken from what is left of a row."""
+    found = 1
+    for tail, head in apart:
+        found = found * (min(left[tail], left[head]) + 1)
+    return found
+
+
+def _check_many(many):
+    if many > MOST_KINDS:
+        raise TooMany(MOST_KINDS)
+
+
+def _taken(left, spots):
+    """What is left when a root, told by its pairs (place, number), is taken; None if it cannot be."""
+    found = list(left)
+    for place, number in spots:
+        found[place] -= number
+        if found[place] < 0:
+            return None
+    return found
+
+
+def _begun_kinds(row, rest, apart):
+    """All ways to take the roots of rest from the row: pairs of what is left and of what was taken.
+
+    Each has as many endings as there are ways to take the roots of the arrows apart, as the roots
+    of sum 1 take all that is left. So it is known that there are too many before these are made.
+    """
+    many = _endings(row, apart)
+    _check_many(many)
+    begun = [(list(row), [])]
+    for root in rest:
+        spots = [(place, number) for place, number in enumerate(root) if number]
+        more = []
+        for left, pairs in begun:
+            often = 1
+            after = _taken(left, spots)
+            while after is not None:
+                many += _endings(after, apart)
+                _check_many(many)
+                more.append((after, pairs + [(root, often)]))
+                often += 1
+                after = _taken(after, spots)
+        begun = begun + more
+    return begun
+
+
+def _with_arrow(begun, tail, head, root):
+    """All begun kinds, each with the root of this arrow taken as often as can be."""
+    found = []
+    for left, pairs in begun:
+        found.append((left, pairs))
+        for often in range(1, min(left[tail], left[head]) + 1):
+            after = list(left)
+            after[tail] -= often
+            after[head] -= often
+            found.append((after, pairs + [(root, often)]))
     return found
 
 
@@ -80,19 +127,26 @@ def kinds_of(net, row):
     check_row(net, row)
     if min(row) < 0:
         return []
-    started = [(row, [])]
-    for root in roots(net)[net.places:]:
-        started = _with_root(started, root)
+    apart = _arrows_apart(net)
     units = [unit_row(net, place) for place in range(net.places)]
-    found = [tuple(sorted(pairs + [(unit, many) for unit, many in zip(units, left) if many]))
-             for left, pairs in started]
-    return [kind_of_pairs(pairs) for pairs in sorted(found)]
+    joined = [tuple([a + b for a, b in zip(units[tail], units[head])]) for tail, head in apart]
+    rest = [root for root in roots(net)[net.places:]
+            if root not in joined and all([a <= b for a, b in zip(root, row)])]
+    begun = _begun_kinds(row, rest, apart)
+    for (tail, head), root in zip(apart, joined):
+        begun = _with_arrow(begun, tail, head, root)
+    found = [sorted(pairs + [(unit, many) for unit, many in zip(units, left) if many]) for left, pairs in begun]
+    return [{root: many for root, many in pairs} for pairs in sorted(found)]
 
 
 def _pair_sum(net, one, other, sign):
     """The sum of sign times pair_form over all pairs of roots where that is above 0."""
-    return sum([many * often * max(0, sign * pair_value(net, root, second))
-                for root, many in one.items() for second, often in other.items()])
+    found = 0
+    for root, many in one.items():
+        ahead = form_ahead(net, root)
+        for second, often in other.items():
+            found += many * often * max(0, sign * sum([a * b for a, b in zip(ahead, second)]))
+    return found
 
 
 def maps_of_kinds(net, one, other):

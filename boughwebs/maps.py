@@ -3,7 +3,7 @@
 from boughwebs.errors import BadMaps, TooMany
 from boughwebs.solving import is_whole, kernel, kernel_columns, leading_columns, left_over, reduced
 from boughwebs.solving import solved, solved_across
-from boughwebs.tables import Table, is_sized, times
+from boughwebs.tables import Table, is_sized, plain, times
 from boughwebs.webs import Web, check_together
 
 MOST_NUMBERS = 300
@@ -77,23 +77,64 @@ def map_of_numbers(one, other, numbers):
     return tuple(tables)
 
 
-def _check_numbers(one, other):
-    check_together(one, other)
+def numbers_of_map(mapping):
+    """The numbers of a map's Tables, told place by place, line by line."""
+    return [number for table in mapping for line in table.lines for number in line]
+
+
+def sum_of_maps(one, other, found, many):
+    """The sum of these maps from one to other, each so often."""
+    numbers = [0] * offsets(one, other)[-1]
+    for mapping, often in zip(found, many):
+        if often:
+            numbers = [a + often * b for a, b in zip(numbers, numbers_of_map(mapping))]
+    return map_of_numbers(one, other, numbers)
+
+
+def plain_map(web):
+    """The map from the web to itself that is plain in all rooms."""
+    return tuple([plain(web.prime, size) for size in web.sizes])
+
+
+def leading_equations(one, other):
+    """The equations for the numbers of a map as `reduced` tells them."""
+    return reduced(one.prime, equations(one, other))
+
+
+def maps_of_equations(one, other, leading):
+    """What maps tells, by these equations."""
+    columns = kernel_columns(offsets(one, other)[-1], leading)
+    return [map_of_numbers(one, other, column) for column in columns]
+
+
+def every_map(one, other):
+    """What maps tells, however many numbers a map has."""
+    return maps_of_equations(one, other, leading_equations(one, other))
+
+
+def how_many_maps(one, other):
+    """What count_maps tells, however many numbers a map has."""
+    return offsets(one, other)[-1] - len(leading_equations(one, other))
+
+
+def check_numbers(one, other):
+    """TooMany(300) if a map from one to other has more numbers."""
     if offsets(one, other)[-1] > MOST_NUMBERS:
         raise TooMany(MOST_NUMBERS)
 
 
 def maps(one, other):
     """The maps from one to other of which all others are sums of multiples, in told order."""
-    _check_numbers(one, other)
-    columns = kernel_columns(offsets(one, other)[-1], reduced(one.prime, equations(one, other)))
-    return [map_of_numbers(one, other, column) for column in columns]
+    check_together(one, other)
+    check_numbers(one, other)
+    return every_map(one, other)
 
 
 def count_maps(one, other):
     """How many maps `maps` tells."""
-    _check_numbers(one, other)
-    return offsets(one, other)[-1] - len(reduced(one.prime, equations(one, other)))
+    check_together(one, other)
+    check_numbers(one, other)
+    return how_many_maps(one, other)
 
 
 def _are_maps(thing):

@@ -1,7 +1,7 @@
 """The form of a net: what it tells of the net's shape, and the roots of good nets."""
 
 from boughwebs.checks import is_same
-from boughwebs.errors import NotGood
+from boughwebs.errors import BadRow, NotGood
 from boughwebs.nets import check_net, check_place, check_row, is_row, unit_row
 
 # No number of the rows that settled_row tells is greater; where one would be, none is ever the last.
@@ -13,6 +13,14 @@ def pair_value(net, one, other):
     """What pair_form tells, of what surely are rows of the net."""
     places = sum([a * b for a, b in zip(one, other)])
     return places - sum([one[tail] * other[head] for tail, head in net.arrows])
+
+
+def form_ahead(net, one):
+    """The numbers whose products with those of another row sum up to pair_form of one and it."""
+    found = list(one)
+    for tail, head in net.arrows:
+        found[head] -= one[tail]
+    return found
 
 
 def pair_form(net, one, other):
@@ -36,19 +44,33 @@ def around(net, place, row):
     return ahead + sum([row[head] for tail, head in net.arrows if tail == place])
 
 
+def other_ends(net):
+    """For each place the other ends of its arrows."""
+    found = [[] for _ in range(net.places)]
+    for tail, head in net.arrows:
+        found[tail].append(head)
+        found[head].append(tail)
+    return found
+
+
 def settled_row(net):
     """The least row of numbers above 0 that has nowhere less than half of what stands around.
 
     None if there is none. Each number below that half has to be raised, so raising one after
     another by 1 passes no such row.
     """
+    ends = other_ends(net)
     row = [1] * net.places
-    while max(row) <= GREATEST_SETTLED:
-        low = [place for place in range(net.places) if 2 * row[place] < around(net, place, row)]
-        if not low:
-            return tuple(row)
-        row[low[0]] += 1
-    return None
+    raised = True
+    while raised:
+        raised = False
+        for place, near in enumerate(ends):
+            if 2 * row[place] < sum([row[k] for k in near]):
+                row[place] += 1
+                raised = True
+        if max(row) > GREATEST_SETTLED:
+            return None
+    return tuple(row)
 
 
 def _wild_row(net):
@@ -91,19 +113,26 @@ def is_root(net, thing):
     return is_row(net, thing) and min(thing) >= 0 and pair_value(net, thing, thing) == 1
 
 
+def check_root(net, root):
+    """BadRow unless root is a root of this good net."""
+    if not is_root(net, root):
+        raise BadRow("a root of the net is wanted")
+
+
 def roots(net):
     """All roots, ascending by sum and then as tuples."""
     check_good(net)
+    ends = other_ends(net)
     level = [unit_row(net, place) for place in range(net.places)]
     found = []
     while level:
         found = found + sorted(level)
         higher = {}
         for row in level:
-            for place in range(net.places):
+            for place, near in enumerate(ends):
                 # Raised where the mirrored row has 1 more: each root but those of sum 1 comes so.
-                if around(net, place, row) == 2 * row[place] + 1:
-                    higher[tuple([row[k] + (1 if k == place else 0) for k in range(net.places)])] = True
+                if sum([row[k] for k in near]) == 2 * row[place] + 1:
+                    higher[row[:place] + (row[place] + 1,) + row[place + 1:]] = True
         level = list(higher)
     return found
 

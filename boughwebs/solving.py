@@ -22,19 +22,22 @@ def _lessen(prime, row, many, other):
             del row[column]
 
 
-def reduced(prime, rows):
-    """The lines of the reduced form that are not 0, as a dict from their leading columns.
+def reduced_rows(prime, rows):
+    """The lines of the reduced form that are not 0, and the indexes of the rows that add nothing to it.
 
-    Rows and lines are dicts from columns to the numbers there that are not 0, so that tables of
-    equations, in which nearly all is 0, stay small.
+    The lines come as a dict from their leading columns, the rows are those that are sums of
+    multiples of the ones ahead of them. Rows and lines are dicts from columns to the numbers there
+    that are not 0, so that tables of equations, in which nearly all is 0, stay small.
     """
     leading = {}
-    for given in rows:
+    spare = []
+    for at, given in enumerate(rows):
         row = {column: given[column] for column in given}
         known = [column for column in given if column in leading]
         for column in known:
             _lessen(prime, row, row[column], leading[column])
         if not row:
+            spare.append(at)
             continue
         first = min(list(row))
         many = _inverse_of(row[first], prime)
@@ -43,6 +46,12 @@ def reduced(prime, rows):
             if first in other:
                 _lessen(prime, other, other[first], row)
         leading[first] = row
+    return (leading, spare)
+
+
+def reduced(prime, rows):
+    """The lines that reduced_rows tells."""
+    leading, _ = reduced_rows(prime, rows)
     return leading
 
 
@@ -59,13 +68,14 @@ def kernel_columns(wide, leading):
     return found
 
 
-def _sparse(lines):
+def sparse(lines):
+    """The lines as dicts from columns to the numbers there that are not 0."""
     return [{k: number for k, number in enumerate(line) if number} for line in lines]
 
 
 def leading_of(one):
     """The lines of a Table's reduced form as `reduced` tells them."""
-    return reduced(one.prime, _sparse(one.lines))
+    return reduced(one.prime, sparse(one.lines))
 
 
 def tidy(one):
@@ -102,7 +112,7 @@ def solved(one, goal):
     if one.prime != goal.prime or one.tall != goal.tall:
         raise BadTable("these do not have one prime and equally many lines")
     lines = [line + other for line, other in zip(one.lines, goal.lines)]
-    leading = reduced(one.prime, _sparse(lines))
+    leading = reduced(one.prime, sparse(lines))
     if any([first >= one.wide for first in leading]):
         return None
     found = [[0] * goal.wide for _ in range(one.wide)]
@@ -137,6 +147,28 @@ def leading_columns(one):
     columns = sorted(leading)
     lines = [[line[k] for k in columns] for line in one.lines]
     return Table(one.prime, one.tall, len(columns), lines)
+
+
+def combination(prime, columns, goal):
+    """How often each column, a list of numbers, has to be taken to sum up to goal; None if that cannot be."""
+    many = len(columns)
+    lines = [[column[k] for column in columns] + [number] for k, number in enumerate(goal)]
+    leading = reduced(prime, sparse(lines))
+    if many in leading:
+        return None
+    return [leading[k].get(many, 0) if k in leading else 0 for k in range(many)]
+
+
+def to_power(number, many):
+    """The number, so many times multiplied."""
+    found = 1
+    square = number
+    while many:
+        if many & 1:
+            found = found * square
+        square = square * square
+        many = many // 2
+    return found
 
 
 def count_whole(prime, size):

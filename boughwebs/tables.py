@@ -21,9 +21,14 @@ def check_prime(prime):
 def _are_lines(thing, tall, wide):
     if not is_list(thing) or len(thing) != tall:
         return False
-    if not all([is_list(line) and len(line) == wide for line in thing]):
-        return False
-    return all([is_number(number) for line in thing for number in line])
+    for line in thing:
+        if not is_list(line) or len(line) != wide:
+            return False
+        for number in line:
+            # As is_number tells, but Tables are made so often that the call would be felt.
+            if not isinstance(number, int) or number is True or number is False:
+                return False
+    return True
 
 
 class Table:

@@ -76,6 +76,11 @@ def sum_of(webs):
     return Web(first.net, first.prime, sizes, tables)
 
 
+def sum_or_bare(net, prime, webs):
+    """The sum of these webs of the net and prime, or the web of empty rooms if there are none."""
+    return sum_of(webs) if webs else bare(net, prime, tuple([0] * net.places))
+
+
 def _are_coordinates(web, thing):
     if not is_list(thing) or len(thing) != web.net.places:
         return False

@@ -4,10 +4,12 @@ from itertools import product
 from random import Random
 
 from boughwebs.maps import maps
-from boughwebs.nets import Net
+from boughwebs.mirrors import mirrored_net
+from boughwebs.nets import Net, sinks
+from boughwebs.roots import roots
 from boughwebs.solving import is_whole
 from boughwebs.tables import Table
-from boughwebs.webs import Web
+from boughwebs.webs import Web, changed
 
 ONE = Net(1, [])
 STEP = Net(2, [(0, 1)])
@@ -127,3 +129,33 @@ def all_maps(one, other):
     """All maps from one to other, found by trying all tables."""
     rooms = [list(all_tables(one.prime, b, a)) for a, b in zip(one.sizes, other.sizes)]
     return [tables for tables in product(*rooms) if leads_plainly(one, other, tables)]
+
+
+def good_nets(seed, most=8):
+    """Lines, forks and arms of each number of places up to most, in some naming and direction."""
+    draw = drawn(seed)
+    found = [ONE] + [arms_net((length,)) for length in range(1, most)]
+    found += [arms_net((1, 1, length)) for length in range(1, most - 2)]
+    found += [arms_net((1, 2, length)) for length in range(2, most - 3)]
+    return [renamed(draw, net) for net in found]
+
+
+def drawn_kind(draw, net, most=2, many=4):
+    """A kind with up to so many roots, each up to so often."""
+    found = roots(net)
+    some = draw.sample(found, draw.randrange(min(many, len(found)) + 1))
+    return {root: draw.randrange(1, most + 1) for root in some}
+
+
+def turned_about(draw, web):
+    """The web in drawn coordinates."""
+    return changed(web, [drawn_whole(draw, web.prime, size) for size in web.sizes])
+
+
+def drawn_word(draw, net, length):
+    """A word of this length, each sink drawn."""
+    word = []
+    for _ in range(length):
+        word.append(draw.choice(sinks(net)))
+        net = mirrored_net(net, word[-1])
+    return word

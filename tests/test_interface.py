@@ -38,30 +38,59 @@ INTERFACE = {
     "mirrors": "mirrored_net(net, place); point_web(net, prime, place); inflow(web, place); outflow(web, place); "
                "mirrored(web, place); lost_points(web, place); mirrored_map(one, other, mapping, place); "
                "mirrored_again(web, place); split_off(web, place)",
+    "words": "is_word(net, thing); net_after(net, word); row_after(net, word, row); web_after(web, word); "
+             "row_before(net, word, row); web_before(net, word, web); word_with(net, counts); word_to(net, other); "
+             "sink_word(net); shifted_web(web); unshifted_web(web); shifted_row(net, row); unshifted_row(net, row)",
+    "leasts": "all_ways(net, one, other); first_web(net, prime, place); last_web(net, prime, place); "
+              "map_from(web, place, column); root_word(net, root); least_web(net, prime, root); shown_least(web)",
+    "loom": "loom(net); loom_order(net); spot_of(net, root); turn_counts(net); partners(net); round_number(net); "
+            "next_root(net, root); last_root(net, root); successors(net, root); predecessors(net, root); "
+            "maps_ahead(net, root); stands_before(net, one, other); is_order(net, thing); order_of_word(net, word); "
+            "word_of_order(net, order)",
+    "meshes": "middle_of_mesh(net, prime, root); mesh_of(net, prime, root); is_mesh(net, prime, root, thing); "
+              "through_or_back(net, prime, root, web, mapping); counts_of_kind(net, kind); "
+              "kind_of_counts(net, counts)",
+    "partings": "parted(web, turn); is_parted(web, turn, thing)",
+    "splits": "whole_of(net, prime, kind); is_least(web); kind_of(web); split_web(web); is_split(web, thing); "
+              "summands(web); is_summands(web, thing)",
+    "ranks": "pairing_table(web, root); counts_of(web); peeled(web); count_turns(web); count_fading(web)",
+    "likeness": "alike(one, other); is_alike_told(one, other, thing); summand(one, other); "
+                "is_summand_told(one, other, thing); shared_kind(one, other)",
+    "exchanges": "exchange(web, one, other, at); exchanges(web, one, other); is_exchanges(web, one, other, thing); "
+                 "matched(web, one, other); is_matched(web, one, other, thing)",
 }
 
 NOUGHT = (plain(3, 1), plain(3, 1))
 
 
 def arguments(net, web, table):
-    """Something good for each parameter that is no net, web or table, by its name."""
+    """Something good for each parameter, by its name."""
     return {"prime": 3, "tall": 1, "wide": 1, "lines": [[1]], "size": 1, "number": 2, "places": 2, "arrows": [(0, 1)],
             "row": (1, 1), "thing": None, "sizes": (1, 1), "tables": [table], "webs": [web, web], "place": 0,
             "coordinates": list(NOUGHT), "mapping": NOUGHT, "kind": {(1, 1): 1}, "kinds": [{(1, 1): 1}, {}],
-            "net": net, "web": web, "goal": table, "two": table}
+            "net": net, "web": web, "goal": table, "two": table, "word": [1, 0], "column": table, "root": (1, 1),
+            "order": [(0, 1), (1, 1), (1, 0)], "turn": NOUGHT, "at": 0, "counts": (1, 1)}
+
+
+def special(module, name, web, table):
+    """What is good for parameters that do not mean the same everywhere."""
+    both = {"tables": table, "solving": table, "maps": web, "mirrors": web, "kinds": {(1, 1): 1}, "roots": (1, 1),
+            "words": web.net, "leasts": 1, "loom": (1, 1), "likeness": web, "exchanges": ((web,), NOUGHT)}.get(module)
+    found = {"one": NOUGHT, "other": NOUGHT} if name == "behind" else {"one": both, "other": both}
+    if name == "web_before":
+        found["web"] = Web(web.net, 3, (1, 1), [plain(3, 1)])
+    if name == "order_of_word":
+        found["word"] = [1, 0, 1]
+    if name == "kind_of_counts":
+        found["counts"] = {(0, 1): 1, (1, 0): 0, (1, 1): 1}
+    return found
 
 
 def given(module, name, parameters):
     """Arguments by name with which this function can be called."""
     web = Web(STEP, 3, (1, 1), [plain(3, 1)])
-    found = {key: arguments(STEP, web, plain(3, 1)).get(key) for key in parameters}
-    many = {"tables": plain(3, 1), "solving": plain(3, 1), "maps": web, "mirrors": web, "kinds": {(1, 1): 1}}
-    for key in ("one", "other"):
-        if key in found:
-            found[key] = (1, 1) if module == "roots" else NOUGHT if name == "behind" else many[module]
-    if name == "Web":
-        found["tables"] = [plain(3, 1)]
-    return found
+    told = {**arguments(STEP, web, plain(3, 1)), **special(module, name, web, plain(3, 1))}
+    return {key: told[key] for key in parameters}
 
 
 def functions():
@@ -109,8 +138,12 @@ class InterfaceTest(unittest.TestCase):
             wanted = {"net": "net", "web": "web", "goal": "table", "two": "table"}
             if module in ("tables", "solving"):
                 wanted["one"] = "table"
-            if module in ("maps", "mirrors") and name != "behind":
+            if module in ("maps", "mirrors", "likeness") and name != "behind":
                 wanted["one"] = wanted["other"] = "web"
+            if name == "word_to":
+                wanted["other"] = "net"
+            if name == "map_from":
+                wanted["column"] = "table"
             if name in ("Web", "bare"):
                 continue
             good = given(module, name, parameters)
@@ -123,7 +156,7 @@ class InterfaceTest(unittest.TestCase):
                         thing(**told)
                     self.assertIsNone(getattr(caught.exception, "part", None))
                     seen += 1
-        self.assertGreater(seen, 300)
+        self.assertGreater(seen, 800)
 
     def test_web_and_bare_name_the_net(self):
         for wrong in (None, 3, "net", object()):

@@ -1,5 +1,6 @@
 """Points [40] and [41]: kinds on good nets."""
 
+import sys
 import unittest
 from itertools import product
 
@@ -8,15 +9,12 @@ from boughwebs.kinds import (general_kind, is_general, is_kind, joinings_of_kind
                              sum_kind)
 from boughwebs.maps import count_maps
 from boughwebs.mirrors import point_web
+from boughwebs.nets import Net
 from boughwebs.roots import pair_form, roots
 from boughwebs.tables import plain
 from boughwebs.webs import Web, sum_of
-from tests.drawn import ARMS_SIX, CLASH, GOOD, ONE, PAIR, RING, STAR, STEP, STRAIGHT, arms_net, drawn, renamed
-
-
-def drawn_kind(draw, net, most=3):
-    found = roots(net)
-    return {root: draw.randrange(1, most + 1) for root in draw.sample(found, draw.randrange(min(5, len(found) + 1)))}
+from tests.drawn import (ARMS_SIX, CLASH, GOOD, ONE, PAIR, RING, STAR, STEP, STRAIGHT, arms_net, drawn, drawn_kind,
+                         renamed)
 
 
 def as_tuple(kind):
@@ -31,6 +29,17 @@ def plain_kinds(net, row):
         if all(sum(k * root[at] for k, root in zip(many, everything)) == row[at] for at in range(net.places)):
             found.append({root: k for k, root in zip(many, everything) if k})
     return sorted(found, key=as_tuple)
+
+
+def plain_counts(net, most):
+    """How many kinds each row up to most has, the roots taken one after another."""
+    counts = {row: 0 for row in product(*[range(number + 1) for number in most])}
+    counts[(0,) * net.places] = 1
+    for root in roots(net):
+        for row in sorted(counts):
+            less = tuple(a - b for a, b in zip(row, root))
+            counts[row] += counts.get(less, 0)
+    return counts
 
 
 def least_webs_of_step(prime):
@@ -108,6 +117,44 @@ class KindTest(unittest.TestCase):
             self.assertEqual(caught.exception.most, 3000)
         self.assertEqual(kinds_of(STEP, (10 ** 30, -1)), [])
 
+    def test_too_many_at_rows_of_lines(self):
+        four, six = [Net(places, [(k, k + 1) for k in range(places - 1)]) for places in (4, 6)]
+        for net, row in ((four, (9,) * 4), (four, (30,) * 4), (six, (9,) * 6), (STEP, (3000, 3000))):
+            with self.assertRaises(TooMany) as caught:
+                kinds_of(net, row)
+            self.assertEqual(caught.exception.most, 3000)
+        found = kinds_of(STEP, (2999, 2999))
+        told = [(((0, 1), 2999 - k), ((1, 0), 2999 - k), ((1, 1), k)) for k in range(3000)]
+        told = sorted(tuple(pair for pair in pairs if pair[1]) for pairs in told)
+        self.assertEqual([tuple(kind.items()) for kind in found], told)
+
+    def test_too_many_are_known_before_they_are_made(self):
+        line = Net(4, [(0, 1), (1, 2), (2, 3)])
+        for row in ((9,) * 4, (30,) * 4, (10 ** 6,) * 4):
+            calls = []
+            sys.setprofile(lambda frame, event, told: calls.append(event) if event == "call" else None)
+            try:
+                with self.assertRaises(TooMany):
+                    kinds_of(line, row)
+            finally:
+                sys.setprofile(None)
+            self.assertLess(len(calls), 1500)
+
+    def test_as_many_as_there_are(self):
+        draw = drawn(65)
+        below = above = 0
+        for net in [STEP, STRAIGHT, CLASH, STAR] + [renamed(draw, arms_net(arms)) for arms in ((3,), (4,), (1, 1, 2))]:
+            counts = plain_counts(net, (6,) * net.places)
+            for row in draw.sample(sorted(counts), min(len(counts), 40)):
+                if counts[row] <= 3000:
+                    self.assertEqual(len(kinds_of(net, row)), counts[row])
+                    below += counts[row] > 1000
+                else:
+                    self.assertRaises(TooMany, kinds_of, net, row)
+                    above += counts[row] < 6000
+        self.assertGreater(below, 3)
+        self.assertGreater(above, 3)
+
     def test_forms_of_kinds_by_hand(self):
         one, other = {(1, 0): 2, (1, 1): 1}, {(0, 1): 3, (1, 0): 5}
         self.assertEqual(maps_of_kinds(STEP, one, other), 2 * 5 + 5)
@@ -119,7 +166,7 @@ class KindTest(unittest.TestCase):
         draw = drawn(61)
         for net in GOOD:
             for _ in range(10):
-                one, other = drawn_kind(draw, net), drawn_kind(draw, net)
+                one, other = drawn_kind(draw, net, 3), drawn_kind(draw, net, 3)
                 there, joined = maps_of_kinds(net, one, other), joinings_of_kinds(net, one, other)
                 self.assertEqual(there - joined, pair_form(net, kind_row(net, one), kind_row(net, other)))
                 values = [(a * b, pair_form(net, r, s)) for r, a in one.items() for s, b in other.items()]
@@ -130,7 +177,7 @@ class KindTest(unittest.TestCase):
         for prime in (2, 5):
             least = least_webs_of_step(prime)
             for _ in range(20):
-                one, other = drawn_kind(draw, STEP), drawn_kind(draw, STEP)
+                one, other = drawn_kind(draw, STEP, 3), drawn_kind(draw, STEP, 3)
                 webs = [[least[root] for root in kind for _ in range(kind[root])] for kind in (one, other)]
                 if webs[0] and webs[1]:
                     found = count_maps(sum_of(webs[0]), sum_of(webs[1]))

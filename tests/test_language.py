@@ -259,7 +259,23 @@ class StatementsTest(unittest.TestCase):
                 above = node.above
                 called = isinstance(above, ast.Call) and above.func is node
                 asked = isinstance(above, ast.Call) and getattr(above.func, "id", "") == "isinstance"
-                self.assertTrue(called or asked or isinstance(above, ast.ClassDef), where)
+                caught = isinstance(above, ast.ExceptHandler)
+                self.assertTrue(called or asked or caught or isinstance(above, ast.ClassDef), where)
+
+    def test_caught_errors(self):
+        errors = {item.name for name, tree in trees() if name == "errors.py" for item in tree.body
+                  if isinstance(item, ast.ClassDef)}
+        for where, node in walked(ast.Try):
+            self.assertEqual((node.finalbody, node.orelse), ([], []), where)
+            for handler in node.handlers:
+                self.assertIn(getattr(handler.type, "id", None), errors | {"KeyError", "ZeroDivisionError"}, where)
+
+    def test_lambdas(self):
+        seen = {}
+        for where, node in walked(ast.Lambda):
+            self.assertEqual(node.args.defaults, [], where)
+            self.assertNotIn(where, seen, where)
+            seen[where] = True
 
     def test_iterated_at_once(self):
         for where, node in walked(ast.Call):
