@@ -1,12 +1,11 @@
 """Exchanges: the webs of one splitting put in the place of those of another one."""
 
-from boughwebs.checks import is_number_to
+from boughwebs.checks import is_number_to, is_same
 from boughwebs.errors import BadNumber, BadSplit, TooMany
 from boughwebs.maps import is_alike
 from boughwebs.solving import inverse, is_whole
 from boughwebs.splits import MOST_TURNS, is_split
 from boughwebs.tables import Table, times
-from boughwebs.webs import check_web
 
 
 def _judged(web, thing):
@@ -19,7 +18,6 @@ def _judged(web, thing):
 
 def _judged_both(web, one, other):
     """BadSplit unless both may be splittings of the web; what is judged of them."""
-    check_web(web)
     told = [_judged(web, one), _judged(web, other)]
     if False in told:
         raise BadSplit("a splitting of the web is wanted")
@@ -84,9 +82,9 @@ def exchange(web, one, other, at):
     return None
 
 
-def _cleared(lines, prime, block, top, left):
+def _cleared(lines, block, top, left):
     """The lines with the block made plain, and with 0 below it."""
-    size = block.tall
+    size, prime = block.tall, block.prime
     known = Table(prime, size, len(lines), lines[top:top + size])
     known = times(inverse(block), known).lines
     found = lines[:top] + [list(line) for line in known]
@@ -97,6 +95,15 @@ def _cleared(lines, prime, block, top, left):
                 rest = [(a - many * b) % prime for a, b in zip(rest, some)]
         found.append(rest)
     return found
+
+
+def _first_fitting(grid, first, framed, choices):
+    """The first of these indexes of framed webs that has a block with inverses, and the block; None if none has."""
+    for to in choices:
+        block = _fitting_block(grid, first, framed[to])
+        if block is not None:
+            return (to, block)
+    return None
 
 
 def _put_in(one, other, choices):
@@ -110,17 +117,11 @@ def _put_in(one, other, choices):
     found = []
     for at, first in enumerate(_framed(one)):
         taken = [to for _, to, _ in found]
-        free = [to for to in choices[at] if to not in taken]
-        blocks = []
-        for to in free:
-            block = _fitting_block(grid, first, framed[to])
-            if block is not None:
-                blocks.append((to, block))
-                break
-        if not blocks:
+        fitting = _first_fitting(grid, first, framed, [to for to in choices[at] if to not in taken])
+        if fitting is None:
             return None
-        to, block = blocks[0]
-        grid = [_cleared(lines, table.prime, table, top, left)
+        to, block = fitting
+        grid = [_cleared(lines, table, top, left)
                 for lines, table, top, left in zip(grid, block, first[1], framed[to][1])]
         found.append((at, to, block))
     return found
@@ -136,22 +137,22 @@ def exchanges(web, one, other):
     return [(at, to) for at, to, block in _put_all(one, other)]
 
 
-def _are_pairs(one, other, thing):
-    """Whether thing is a list of pairs of the indexes of one's webs, in order, and of other's, each once."""
-    if not isinstance(thing, list) or len(thing) != len(one[0]) or len(thing) != len(other[0]):
+def _are_pairs(thing, many, side):
+    """Whether thing is a list of so many pairs that have at this side each of so many indexes once."""
+    if not isinstance(thing, list) or len(thing) != many:
         return False
     for pair in thing:
-        if not isinstance(pair, tuple) or len(pair) != 2 or not is_number_to(pair[1], len(thing) - 1):
+        if not isinstance(pair, tuple) or len(pair) != 2 or not is_number_to(pair[side], many - 1):
             return False
-    return len({pair[1]: True for pair in thing}) == len(thing)
+    return len({pair[side]: True for pair in thing}) == many
 
 
 def is_exchanges(web, one, other, thing):
     """Whether thing, which may be anything, is such a list as exchanges tells."""
     _check_splits(web, one, other)
-    if not _are_pairs(one, other, thing):
+    if not _are_pairs(thing, len(one[0]), 1):
         return False
-    if not all([is_number_to(pair[0], at) and pair[0] == at for at, pair in enumerate(thing)]):
+    if not all([is_same(at, pair[0]) for at, pair in enumerate(thing)]):
         return False
     return _put_in(one, other, [[to] for at, to in thing]) is not None
 
@@ -165,11 +166,6 @@ def matched(web, one, other):
 def is_matched(web, one, other, thing):
     """Whether thing, which may be anything, is such a list as matched tells."""
     _check_splits(web, one, other)
-    if not isinstance(thing, list) or len(thing) != len(one[0]) or len(thing) != len(other[0]):
-        return False
-    for pair in thing:
-        if not isinstance(pair, tuple) or len(pair) != 2 or not is_number_to(pair[0], len(thing) - 1):
-            return False
-    if len({pair[0]: True for pair in thing}) != len(thing):
+    if not _are_pairs(thing, len(one[0]), 0):
         return False
     return all([is_alike(some, other[0][to], mapping) for some, (to, mapping) in zip(one[0], thing)])

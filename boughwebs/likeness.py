@@ -20,7 +20,7 @@ def _inverses(way):
 
 def _first_unlike(one, other):
     """The tuple of the least root that is not equally often in both kinds; None if they are equal."""
-    for root in sorted({**one, **other}):
+    for root in sorted(list(one) + list(other)):
         if one.get(root, 0) != other.get(root, 0):
             return ("root", root, one.get(root, 0), other.get(root, 0))
     return None

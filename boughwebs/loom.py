@@ -150,8 +150,9 @@ def is_order(net, thing):
     check_good(net)
     if not is_list(thing) or len(thing) != len(roots(net)):
         return False
-    if not all([is_root(net, root) for root in thing]) or len({root: True for root in thing}) != len(thing):
+    if not all([is_root(net, root) for root in thing]):
         return False
+    # A root that comes twice has a map to itself, from the later place to the earlier one.
     for at, root in enumerate(thing):
         ahead = form_ahead(net, root)
         if any([sum([a * b for a, b in zip(ahead, other)]) > 0 for other in thing[:at]]):

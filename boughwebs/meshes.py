@@ -46,7 +46,6 @@ def mesh_of(net, prime, root):
 
     What the first map leaves of the middle is alike to the next root's least web.
     """
-    _check_least(net, prime, root)
     one = least_web(net, prime, root)
     webs = _webs_behind(net, prime, root)
     into = _one_over_another(one, _maps_into(one, webs))

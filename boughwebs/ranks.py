@@ -31,9 +31,8 @@ def pairing_table(web, root):
 
 def counts_of(web):
     """How many maps lead from each root's least web to web: as many as the kind of the web tells."""
-    check_web(web)
-    check_good(web.net)
-    return counts_of_kind(web.net, kind_of(web))
+    kind = kind_of(web)
+    return counts_of_kind(web.net, kind)
 
 
 def peeled(web):

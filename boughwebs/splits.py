@@ -1,7 +1,7 @@
 """Splittings: which least webs a web is a sum of, and the coordinates that show it."""
 
 from boughwebs.errors import BadWeb, TooMany
-from boughwebs.kinds import check_kind, kind_of_pairs, kind_row
+from boughwebs.kinds import kind_of_pairs, kind_row
 from boughwebs.leasts import least_web
 from boughwebs.maps import behind, how_many_maps, leading_equations, leads, maps_of_equations, offsets, plain_map
 from boughwebs.maps import sum_of_maps
@@ -21,7 +21,6 @@ def whole_of(net, prime, kind):
     """The sum of the least webs of the kind's roots, ascending, each as often as told."""
     check_good(net)
     check_prime(prime)
-    check_kind(net, kind)
     if max(kind_row(net, kind)) > GREATEST:
         raise BadWeb("sizes")
     webs = []

@@ -309,6 +309,7 @@ class ErrorsTest(unittest.TestCase):
             for work in self.works(STEP, root):
                 self.assertRaises(BadRow, work)
             self.assertRaises(BadRow, stands_before, STEP, (1, 1), root)
+            self.assertRaises(BadRow, stands_before, STEP, root, (1, 1))
 
     def test_nets(self):
         for net in (PAIR, RING, FIVE, TRIPLE, arms_net((2, 2, 2))):

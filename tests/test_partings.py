@@ -8,7 +8,7 @@ from boughwebs.partings import is_parted, parted
 from boughwebs.solving import inverse, is_whole, rank
 from boughwebs.tables import Table, beside, corner, empty, minus, plain, scaled, times
 from boughwebs.webs import Web, bare, changed, sum_of
-from tests.drawn import NETS, ONE, PAIR, STEP, STRAIGHT, drawn, drawn_map, drawn_sizes, drawn_web, drawn_whole
+from tests.drawn import NETS, ONE, PAIR, RING, STEP, STRAIGHT, drawn, drawn_map, drawn_sizes, drawn_web, drawn_whole
 
 
 def drawn_turns(seed):
@@ -141,7 +141,9 @@ class PartedTest(unittest.TestCase):
                       (firm, fading, list(way)), (firm, None, way), (None, fading, way), (firm, fading, None),
                       (firm, fading, way[:2]), (firm, other, way), (other, fading, way),
                       (firm, bare(ONE, 3, (0,)), way), (firm, web, way), (way, firm, fading), {}, web,
-                      (firm, fading, tuple(plain(5, size) for size in web.sizes))):
+                      (firm, fading, tuple(plain(5, size) for size in web.sizes)),
+                      (bare(STRAIGHT, 5, firm.sizes), fading, way), (firm, bare(STRAIGHT, 5, fading.sizes), way),
+                      (bare(RING, 3, firm.sizes), fading, way), (firm, bare(RING, 3, fading.sizes), way)):
             self.assertIs(is_parted(web, turn, thing), False)
         minused = tuple(minus(a, b) for a, b in zip(way, way))
         self.assertIs(is_parted(web, turn, (firm, fading, minused)), False)

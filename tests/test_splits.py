@@ -236,6 +236,17 @@ class SplitTest(unittest.TestCase):
         for key in (1, 2, 3, "many"):
             self.assertGreater(seen[key], 5)
 
+    def test_few_maps_that_part(self):
+        # All maps of the web to itself that part it are multiples of two.
+        draw = drawn(199)
+        for prime in (2, 3, 5, 7, 11, 13, 17, 19, 23):
+            web = sum_of([Web(PAIR, prime, (1, 1), [plain(prime, 1), Table(prime, 1, 1, [[number]])])
+                          for number in (0, 1)])
+            for _ in range(6):
+                other = turned_about(draw, web)
+                self.assertEqual(count_maps(other, other), 2)
+                self.assertEqual([some.sizes for some in self.judge(other)], [(1, 1), (1, 1)])
+
     def test_no_kinds_on_other_nets(self):
         for net in OTHERS:
             web = nothing(net, 3)
@@ -296,12 +307,18 @@ class IsSplitTest(unittest.TestCase):
         web = Web(STEP, 3, (1, 2), [Table(3, 2, 1, [[1], [2]])])
         webs, way = split_web(web)
         self.assertIs(is_split(web, (webs, way)), True)
-        other = least_web(STEP, 5, (1, 1))
+        other, turned = [least_web(net, prime, webs[0].sizes) for net, prime in ((STEP, 5), (Net(2, [(1, 0)]), 3))]
         for thing in (None, 3, "", (), [], [webs, way], (webs,), (webs, way, None), (list(webs), way),
-                      (webs, list(way)), (webs, None), (None, way), (webs, way[:1]), ((None,), way), ((3, 4), way),
+                      (webs, list(way)), (webs, None), (None, way), (webs, way[:1]), ((None,), way), ((3, 4), way), ((turned,) + webs[1:], way),
                       ((other,) + webs[1:], way), ((point_web(STRAIGHT, 3, 0),) + webs[1:], way), (way, webs), {},
                       (webs, (plain(5, 1), plain(5, 2))), web, ((webs,), way)):
             self.assertIs(is_split(web, thing), False)
+
+    def test_a_sum_that_is_too_great(self):
+        web = bare(STEP, 3, (60, 1))
+        webs, way = split_web(web)
+        self.assertIs(is_split(web, (webs, way)), True)
+        self.assertIs(is_split(web, (webs + webs, way)), False)
 
     def test_least_is_looked_at_last(self):
         # The second web cannot be judged; what is told of a way or of the first web comes ahead of that.
@@ -368,7 +385,8 @@ class SummandsTest(unittest.TestCase):
                           [(root, into, with_number(onto, place))] + found[1:], [found[0], found[0]] + found[2:],
                           [(root, into, found[1][2]), (root, found[1][1], onto)] + found[2:],
                           [(None, into, onto)] + found[1:], [(root, None, onto)] + found[1:], [None] + found[1:],
-                          [(root, list(into), onto)] + found[1:], None, 3, "", {}, web, split_web(web)):
+                          [(root, list(into), onto)] + found[1:], [(root, into, list(onto))] + found[1:],
+                          [(root, into, None)] + found[1:], [(root, into, onto[:-1])] + found[1:], None, 3, "", {}, web, split_web(web)):
                 self.assertIs(is_summands(web, thing), False)
 
     def test_roots_ascend(self):
