@@ -2,7 +2,7 @@
 
 from boughwebs.checks import is_number_to, is_same
 from boughwebs.errors import BadNumber, BadSplit, TooMany
-from boughwebs.maps import is_alike
+from boughwebs.maps import is_alike, map_back
 from boughwebs.solving import inverse, is_whole
 from boughwebs.splits import MOST_TURNS, is_split
 from boughwebs.tables import Table, times
@@ -160,7 +160,7 @@ def is_exchanges(web, one, other, thing):
 def matched(web, one, other):
     """For each of one's webs the pair of the index of one of other's, each once, and a map to it with an inverse."""
     _check_splits(web, one, other)
-    return [(to, tuple([inverse(table) for table in block])) for at, to, block in _put_all(one, other)]
+    return [(to, map_back(block)) for at, to, block in _put_all(one, other)]
 
 
 def is_matched(web, one, other, thing):

@@ -1,9 +1,8 @@
 """Likeness: whether two webs are alike, whether one is a summand of the other, and what shows it."""
 
 from boughwebs.checks import is_same
-from boughwebs.maps import behind, is_alike, leads, plain_map
+from boughwebs.maps import behind, is_alike, leads, map_back, plain_map
 from boughwebs.roots import check_good
-from boughwebs.solving import inverse
 from boughwebs.splits import columns_of_webs, kind_of, lines_of_webs, split_web
 from boughwebs.tables import beside, empty, over
 from boughwebs.webs import check_together
@@ -12,10 +11,6 @@ from boughwebs.webs import check_together
 def _check_both(one, other):
     check_together(one, other)
     check_good(one.net)
-
-
-def _inverses(way):
-    return tuple([inverse(table) for table in way])
 
 
 def _first_unlike(one, other):
@@ -40,7 +35,7 @@ def alike(one, other):
     told = _first_unlike(kind_of(one), kind_of(other))
     if told is not None:
         return told
-    return ("map", behind(_inverses(split_web(one)[1]), split_web(other)[1]))
+    return ("map", behind(map_back(split_web(one)[1]), split_web(other)[1]))
 
 
 def is_alike_told(one, other, thing):
@@ -72,12 +67,12 @@ def summand(one, other):
     others, other_way = split_web(other)
     indexes = _matching_indexes(webs, others)
     columns = columns_of_webs(others, other_way)
-    lines = lines_of_webs(others, _inverses(other_way))
+    lines = lines_of_webs(others, map_back(other_way))
     into = [beside([empty(one.prime, size, 0)] + [columns[k][place] for k in indexes])
             for place, size in enumerate(other.sizes)]
     onto = [over([empty(one.prime, 0, size)] + [lines[k][place] for k in indexes])
             for place, size in enumerate(other.sizes)]
-    return ("maps", behind(_inverses(way), tuple(into)), behind(tuple(onto), way))
+    return ("maps", behind(map_back(way), tuple(into)), behind(tuple(onto), way))
 
 
 def is_summand_told(one, other, thing):

@@ -1,7 +1,7 @@
 """Maps between webs, and the webs of what they lead to 0, of what they give, of what they leave."""
 
 from boughwebs.errors import BadMaps, TooMany
-from boughwebs.solving import is_whole, kernel, kernel_columns, leading_columns, left_over, reduced
+from boughwebs.solving import inverse, is_whole, kernel, kernel_columns, leading_columns, left_over, reduced
 from boughwebs.solving import solved, solved_across
 from boughwebs.tables import Table, is_sized, plain, times
 from boughwebs.webs import Web, check_together
@@ -10,8 +10,8 @@ MOST_NUMBERS = 300
 MOST_PLACES = 8
 
 
-def _are_between(one, other, thing):
-    """Whether thing is a tuple of Tables from the rooms of one to those of other."""
+def are_between(one, other, thing):
+    """Whether thing, which may be anything, is a tuple of Tables from the rooms of one to those of other."""
     if not isinstance(thing, tuple) or len(thing) != one.net.places:
         return False
     return all([is_sized(table, one.prime, tall, wide)
@@ -20,7 +20,7 @@ def _are_between(one, other, thing):
 
 def leads(one, other, thing):
     """Whether thing, which may be anything, is a map between these webs of one net and prime."""
-    if not _are_between(one, other, thing):
+    if not are_between(one, other, thing):
         return False
     return all([times(thing[head], one.tables[at]) == times(other.tables[at], thing[tail])
                 for at, (tail, head) in enumerate(one.net.arrows)])
@@ -67,14 +67,20 @@ def equations(one, other):
     return [row for at in range(len(one.net.arrows)) for row in _arrow_equations(one, other, at, starts)]
 
 
+def tables_of_numbers(prime, talls, wides, numbers):
+    """The tuple of Tables of these sizes with these numbers, told Table by Table, line by line."""
+    tables = []
+    ahead = 0
+    for tall, wide in zip(talls, wides):
+        lines = [numbers[ahead + k * wide:ahead + (k + 1) * wide] for k in range(tall)]
+        tables.append(Table(prime, tall, wide, lines))
+        ahead += tall * wide
+    return tuple(tables)
+
+
 def map_of_numbers(one, other, numbers):
     """The tuple of Tables with these numbers, told place by place, line by line."""
-    starts = offsets(one, other)
-    tables = []
-    for place, (wide, tall) in enumerate(zip(one.sizes, other.sizes)):
-        lines = [numbers[starts[place] + k * wide:starts[place] + (k + 1) * wide] for k in range(tall)]
-        tables.append(Table(one.prime, tall, wide, lines))
-    return tuple(tables)
+    return tables_of_numbers(one.prime, other.sizes, one.sizes, numbers)
 
 
 def numbers_of_map(mapping):
@@ -156,10 +162,20 @@ def behind(one, other):
     return tuple([times(second, first) for first, second in zip(one, other)])
 
 
+def map_back(mapping):
+    """The inverses of a map's Tables, which have some."""
+    return tuple([inverse(table) for table in mapping])
+
+
+def leads_back(one, other, thing):
+    """Whether thing, which may be anything, is a map with inverses between these webs of one net and prime."""
+    return leads(one, other, thing) and all([is_whole(table) for table in thing])
+
+
 def is_alike(one, other, thing):
     """Whether thing, which may be anything, is a map from one to other with inverses."""
     check_together(one, other)
-    return leads(one, other, thing) and all([is_whole(table) for table in thing])
+    return leads_back(one, other, thing)
 
 
 def web_into(web, columns):

@@ -5,10 +5,11 @@ from boughwebs.errors import BadKind, BadMaps, OtherNet
 from boughwebs.kinds import check_kind
 from boughwebs.leasts import least_web, shown_least
 from boughwebs.loom import loom, next_root, spots_behind, successors
-from boughwebs.maps import behind, check_numbers, every_map, leads, numbers_of_map, plain_map, rest_web, sum_of_maps
+from boughwebs.maps import behind, check_numbers, every_map, leads, map_back, numbers_of_map, plain_map, rest_web
+from boughwebs.maps import sum_of_maps
 from boughwebs.nets import check_net
 from boughwebs.roots import check_good, check_root, form_ahead, is_root, roots
-from boughwebs.solving import combination, inverse, rank
+from boughwebs.solving import combination, rank
 from boughwebs.tables import beside, check_prime, empty, over, times
 from boughwebs.webs import check_web, sum_or_bare
 
@@ -52,8 +53,7 @@ def mesh_of(net, prime, root):
     if next_root(net, root) is None:
         return (into, None)
     rest, onto = rest_web(one, sum_or_bare(net, prime, webs), into)
-    backs = tuple([inverse(table) for table in shown_least(rest)])
-    return (into, behind(onto, backs))
+    return (into, behind(onto, map_back(shown_least(rest))))
 
 
 def _is_onto(middle, last, into, onto):

@@ -4,12 +4,15 @@ from boughwebs.errors import BadTable
 from boughwebs.tables import Table, across, check_prime, check_size, check_table, plain
 
 
-def _inverse_of(number, prime):
-    """The number that makes 1 with this one, as its power to prime - 1 is 1."""
-    found = 1
-    for _ in range(prime - 2):
-        found = found * number % prime
-    return found
+def inverse_of(number, prime):
+    """The number that makes 1 with this one, which is not 0 modulo the prime."""
+    rest, ahead = number % prime, prime
+    found, other = 1, 0
+    while rest != 1:
+        many = ahead // rest
+        rest, ahead = ahead - many * rest, rest
+        found, other = other - many * found, found
+    return found % prime
 
 
 def _lessen(prime, row, many, other):
@@ -40,7 +43,7 @@ def reduced_rows(prime, rows):
             spare.append(at)
             continue
         first = min(list(row))
-        many = _inverse_of(row[first], prime)
+        many = inverse_of(row[first], prime)
         row = {column: row[column] * many % prime for column in row}
         for other in list(leading.values()):
             if first in other:
@@ -149,14 +152,27 @@ def leading_columns(one):
     return Table(one.prime, one.tall, len(columns), lines)
 
 
+def solution(prime, wide, rows, goal):
+    """So many numbers that make, with each row, goal's number, 0 where they are free; None if there are none.
+
+    Rows are dicts from columns to the numbers there that are not 0.
+    """
+    lines = []
+    for row, number in zip(rows, goal):
+        line = {column: row[column] for column in row}
+        if number % prime:
+            line[wide] = number % prime
+        lines.append(line)
+    leading = reduced(prime, lines)
+    if wide in leading:
+        return None
+    return [leading[k].get(wide, 0) if k in leading else 0 for k in range(wide)]
+
+
 def combination(prime, columns, goal):
     """How often each column, a list of numbers, has to be taken to sum up to goal; None if that cannot be."""
-    many = len(columns)
-    lines = [[column[k] for column in columns] + [number] for k, number in enumerate(goal)]
-    leading = reduced(prime, sparse(lines))
-    if many in leading:
-        return None
-    return [leading[k].get(many, 0) if k in leading else 0 for k in range(many)]
+    lines = [[column[k] for column in columns] for k in range(len(goal))]
+    return solution(prime, len(columns), sparse(lines), goal)
 
 
 def to_power(number, many):
@@ -171,14 +187,22 @@ def to_power(number, many):
     return found
 
 
-def count_whole(prime, size):
-    """How many Tables of this size have an inverse: each line lies outside of what those above span."""
-    check_prime(prime)
-    check_size(size, "size")
+def count_whole_over(number, size):
+    """How many square tables of this size over a field of so many numbers have an inverse.
+
+    Each line lies outside of what those above span.
+    """
     powers = [1]
     for _ in range(size):
-        powers.append(powers[-1] * prime)
+        powers.append(powers[-1] * number)
     found = 1
     for power in powers[:size]:
         found = found * (powers[size] - power)
     return found
+
+
+def count_whole(prime, size):
+    """How many Tables of this size have an inverse."""
+    check_prime(prime)
+    check_size(size, "size")
+    return count_whole_over(prime, size)

@@ -3,11 +3,11 @@
 from boughwebs.errors import BadWeb, TooMany
 from boughwebs.kinds import kind_of_pairs, kind_row
 from boughwebs.leasts import least_web
-from boughwebs.maps import behind, how_many_maps, leading_equations, leads, maps_of_equations, offsets, plain_map
-from boughwebs.maps import sum_of_maps
+from boughwebs.maps import behind, how_many_maps, leading_equations, leads, map_back, maps_of_equations, offsets
+from boughwebs.maps import plain_map, sum_of_maps
 from boughwebs.partings import done_often, parted
 from boughwebs.roots import check_good, is_good, is_root, pair_value
-from boughwebs.solving import inverse, is_whole, rank
+from boughwebs.solving import is_whole, rank
 from boughwebs.tables import GREATEST, Table, beside, check_prime, corner, empty, over, plain, times
 from boughwebs.walks import column_led, least_end, lines_across, loosened, mirrored_sink, mirrored_source, point_at
 from boughwebs.walks import tightened
@@ -29,7 +29,7 @@ def whole_of(net, prime, kind):
     return sum_or_bare(net, prime, webs)
 
 
-def _check_turns(prime, many):
+def check_turns(prime, many):
     """TooMany(600) if prime to the power of many is more."""
     found = 1
     for _ in range(many):
@@ -41,13 +41,13 @@ def _check_turns(prime, many):
 def _few_turns(web):
     """The maps from the web to itself of which all others are sums of multiples."""
     # There are never fewer than the form tells, and it is told much sooner.
-    _check_turns(web.prime, pair_value(web.net, web.sizes, web.sizes))
+    check_turns(web.prime, pair_value(web.net, web.sizes, web.sizes))
     leading = leading_equations(web, web)
-    _check_turns(web.prime, offsets(web, web)[-1] - len(leading))
+    check_turns(web.prime, offsets(web, web)[-1] - len(leading))
     return maps_of_equations(web, web, leading)
 
 
-def _multiples(prime, many):
+def multiples(prime, many):
     """All lists of so many numbers whose last one that is not 0 is 1: of multiples of one list just one."""
     found = []
     ahead = [[]]
@@ -70,7 +70,7 @@ def _does_both(turn):
 def _parting_turn(web):
     """A map from the web to itself that does both; None if there is none."""
     turns = _few_turns(web)
-    for numbers in _multiples(web.prime, len(turns)):
+    for numbers in multiples(web.prime, len(turns)):
         turn = sum_of_maps(web, web, turns, numbers)
         if _does_both(turn):
             return turn
@@ -232,7 +232,7 @@ def summands(web):
     check_web(web)
     check_good(web.net)
     webs, way = split_web(web)
-    back = tuple([inverse(table) for table in way])
+    back = map_back(way)
     return [(some.sizes, into, onto)
             for some, into, onto in zip(webs, columns_of_webs(webs, way), lines_of_webs(webs, back))]
 

@@ -47,12 +47,18 @@ def check_web(web):
         raise BadWeb(None)
 
 
+def check_all(webs):
+    """BadWeb(None) for no Webs, OtherNet unless all are of one net and prime."""
+    for web in webs:
+        check_web(web)
+    for web in webs:
+        if web.net != webs[0].net or web.prime != webs[0].prime:
+            raise OtherNet("the webs are not of one net and prime")
+
+
 def check_together(one, other):
     """BadWeb(None) for no Webs, OtherNet unless both are of one net and prime."""
-    check_web(one)
-    check_web(other)
-    if one.net != other.net or one.prime != other.prime:
-        raise OtherNet("the webs are not of one net and prime")
+    check_all([one, other])
 
 
 def bare(net, prime, sizes):
@@ -65,11 +71,8 @@ def sum_of(webs):
     """Rooms beside one another, tables along the diagonal."""
     if not is_list(webs) or len(webs) == 0:
         raise BadWeb(None)
-    for web in webs:
-        check_web(web)
+    check_all(webs)
     first = webs[0]
-    for web in webs:
-        check_together(first, web)
     sizes = tuple([sum([web.sizes[place] for web in webs]) for place in range(first.net.places)])
     _check_frame(first.net, first.prime, sizes)
     tables = [corner([web.tables[at] for web in webs]) for at in range(len(first.net.arrows))]
