@@ -3,6 +3,7 @@
 from itertools import product
 from random import Random
 
+from boughwebs.errors import WebError
 from boughwebs.maps import maps
 from boughwebs.mirrors import mirrored_net
 from boughwebs.nets import Net, sinks
@@ -159,3 +160,86 @@ def drawn_word(draw, net, length):
         word.append(draw.choice(sinks(net)))
         net = mirrored_net(net, word[-1])
     return word
+
+
+def error_of(work, *arguments, **named):
+    """The name of the error that this raises, with its attribute if it has one; None if it raises none."""
+    try:
+        work(*arguments, **named)
+    except WebError as error:
+        told = [getattr(error, key) for key in ("part", "at", "most") if hasattr(error, key)]
+        return (type(error).__name__, *told)
+    return None
+
+
+def check_order(case, work, good, steps):
+    """The errors come in this order: steps are triples of a parameter, a wrong value, and the error that is due.
+
+    Each is raised when it is wrong alone, and when all that come behind it are wrong, too.
+    """
+    case.assertIsNone(error_of(work, **good))
+    for at, (key, wrong, told) in enumerate(steps):
+        case.assertEqual(error_of(work, **{**good, key: wrong}), told, (work, key, wrong))
+        all_wrong = dict(good)
+        for other, value, _ in reversed(steps[at:]):
+            all_wrong[other] = value
+        case.assertEqual(error_of(work, **all_wrong), told, (work, key, wrong, "and more"))
+
+
+def with_number(table, at=0):
+    """The Table with one more at one of its numbers."""
+    numbers = [number for line in table.lines for number in line]
+    numbers[at] += 1
+    wide = table.wide
+    return Table(table.prime, table.tall, wide, [numbers[k * wide:(k + 1) * wide] for k in range(table.tall)])
+
+
+def with_one_otherwise(mapping):
+    """The tuple of Tables with one number otherwise, each number in its turn."""
+    for k, table in enumerate(mapping):
+        for at in range(table.tall * table.wide):
+            yield mapping[:k] + (with_number(table, at),) + mapping[k + 1:]
+
+
+def of_other_kinds(value, allowed=()):
+    """Values that are not this one, as something in it is of another kind, or lacks, or is too many.
+
+    Lists in place of tuples are not among them at depths that are allowed.
+    """
+    for other in _of_other_kinds(value, 0, allowed):
+        yield other
+
+
+def _of_other_kinds(value, depth, allowed):
+    for other in (None, 0.5, "other", object()):
+        yield other
+    if isinstance(value, int):
+        yield float(value)
+        yield str(value)
+        if value in (0, 1):
+            yield bool(value)
+    if isinstance(value, str):
+        yield value + "s"
+    if isinstance(value, Table):
+        yield value.lines
+        yield Table(7 if value.prime != 7 else 5, value.tall, value.wide, [[0] * value.wide] * value.tall)
+    if isinstance(value, (list, tuple)):
+        if depth not in allowed:
+            yield list(value) if isinstance(value, tuple) else tuple(value)
+        yield value + type(value)([None])
+        for at, item in enumerate(value):
+            for other in _of_other_kinds(item, depth + 1, allowed):
+                yield value[:at] + type(value)([other]) + value[at + 1:]
+
+
+def drawn_joining(draw, one, other):
+    return tuple(drawn_table(draw, one.prime, other.sizes[head], one.sizes[tail]) for tail, head in one.net.arrows)
+
+
+def drawn_slack(draw, one, other):
+    return tuple(drawn_table(draw, one.prime, b, a) for a, b in zip(one.sizes, other.sizes))
+
+
+def small_rows(net, most):
+    """All rows of numbers from 0 to most."""
+    return list(product(range(most + 1), repeat=net.places))

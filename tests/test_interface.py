@@ -12,7 +12,7 @@ import unittest
 from boughwebs import errors
 from boughwebs.kinds import general_kind, kinds_of, sum_kind
 from boughwebs.mirrors import point_web
-from boughwebs.tables import plain
+from boughwebs.tables import empty, plain
 from boughwebs.webs import Web, bare
 from tests.drawn import ONE, PAIR, STEP
 
@@ -58,46 +58,138 @@ INTERFACE = {
                 "is_summand_told(one, other, thing); shared_kind(one, other)",
     "exchanges": "exchange(web, one, other, at); exchanges(web, one, other); is_exchanges(web, one, other, thing); "
                  "matched(web, one, other); is_matched(web, one, other, thing)",
+    "joinings": "is_joining(one, other, thing); no_joining(one, other); plus_joining(one, other, first, second); "
+                "scaled_joining(one, other, joining, number); twist(one, other, slack); "
+                "tidy_joining(one, other, joining); joinings(one, other); count_joinings(one, other)",
+    "probes": "probes(one, other); is_probe(one, other, thing); probe_value(one, other, probe, joining); "
+              "compared(one, other, first, second); is_compared(one, other, first, second, thing)",
+    "middles": "middle_web(one, other, joining); middle_maps(one, other, joining); "
+               "joining_of(one, other, web, into, onto); is_joining_of(one, other, web, into, onto, thing); "
+               "pulled(one, other, joining, web, mapping); pushed(one, other, joining, web, mapping); "
+               "lifted(one, other, joining, web, mapping); spread(one, other, joining, web, mapping); "
+               "is_lifted(one, other, joining, web, mapping, thing); "
+               "is_spread(one, other, joining, web, mapping, thing); count_lost(one, other, joining, web); "
+               "middle_kinds(one, other)",
+    "blocks": "is_block(net, thing); blocks_between(net, outer, inner); block_joining(outer, inner, kind)",
+    "bends": "bends(net, one, other); barred_by(net, one, other); chain_kinds(net, other, chain); "
+             "is_bend_chain(net, one, other, thing); bend_chain(net, one, other); bending_steps(net, row); "
+             "is_bending(one, other, thing); shown_bending(one, other); is_shown_bending(one, other, thing)",
+    "parts": "is_part(web, thing); part_row(web, part); no_part(web); whole_part(web); part_web(web, part); "
+             "rest_of_part(web, part); part_from(web, columns); part_sum(web, one, other); "
+             "common_part(web, one, other); is_within(web, one, other); carried(one, other, mapping, part); "
+             "fetched(one, other, mapping, part); all_parts(web)",
+    "generals": "is_under(net, one, other); under_rows(net, row); general_joinings(net, one, other); "
+                "general_maps(net, one, other)",
+    "steady": "worth(net, prices, row); slope(net, prices, weights, row); steady_roots(net, prices, weights); "
+              "root_prices(net, root)",
+    "ladders": "ladder(web, prices, weights); is_ladder(web, prices, weights, thing); steps_of(web, prices, weights); "
+               "is_steady(web, prices, weights); is_firm(web, prices, weights); dear_part(web, prices, weights); "
+               "general_steps(net, prices, weights, row); even_prices(web, prices, weights); "
+               "witness(web, prices, weights); is_witness(web, prices, weights, thing); "
+               "factors(web, prices, weights); dearest(web, prices); is_dearest(web, prices, number, thing); "
+               "worths(web)",
+    "bars": "line_order(net); is_bar(net, thing); is_bars(net, thing); bar_web(net, prime, bar); "
+            "web_of_bars(net, prime, bars); split_line(web); bars_of(web); is_split_line(web, thing); "
+            "long_rank(web, start, stop); threads(web, start, stop)",
+    "ends": "bar_maps(net, one, other); bar_joinings(net, one, other); kind_of_bars(net, bars); "
+            "bars_of_kind(net, kind); window(web, start, stop); mirrored_bars(net, place, bars)",
+    "nearness": "straight_net(places); pairing(one, other, step); is_pairing(one, other, step, thing); "
+                "barrier(one, other, step); is_barrier(one, other, step, thing); distance(one, other); "
+                "bars_between(one, other, part)",
+    "shuttles": "shifted(web, step); onward(web, step); shifted_map(one, other, mapping, step); "
+                "is_shuttle(one, other, step, thing); shuttle(one, other, step); nearness(one, other); "
+                "led_pairs(one, other, step, there); rank_rows(web)",
+    "polys": "is_poly(prime, thing); poly_product(prime, one, other); poly_divided(prime, one, other); "
+             "poly_common(prime, one, other); poly_power(prime, one, many); poly_parts(prime, one); "
+             "is_bare(prime, thing); bare_polys(prime, degree); companion(prime, one)",
+    "pairs": "pair_net(); is_least_name(prime, thing); least_sizes(prime, name); least_pair(prime, name); "
+             "is_pair_kind(prime, thing); sum_of_kind(prime, kind)",
+    "pairforms": "split_pair(web); kind_of_pair(web); is_split_pair(web, thing); chain_count(web, many)",
+    "pairmaps": "least_maps(prime, one, other); kind_maps(prime, one, other); kind_joinings(prime, one, other); "
+                "parted_by(one, other); alike_by(one, other); mixed(web, four); mixed_kind(prime, kind, four); "
+                "turned_kind(prime, kind)",
+    "paircounts": "self_maps(prime, kind); many_of_kind(prime, kind); kinds_of_sizes(prime, sizes); "
+                  "common_kind(prime, sizes)",
 }
 
 NOUGHT = (plain(3, 1), plain(3, 1))
+WHOLE = Web(STEP, 3, (1, 1), [plain(3, 1)])
+JOINING = (plain(3, 1),)
+BOTH_PLAIN = Web(PAIR, 3, (1, 1), [plain(3, 1), plain(3, 1)])
 
+ARGUMENTS = {
+    "prime": 3, "tall": 1, "wide": 1, "lines": [[1]], "size": 1, "number": 2, "places": 2, "arrows": [(0, 1)],
+    "row": (1, 1), "thing": None, "sizes": (1, 1), "tables": [plain(3, 1)], "webs": [WHOLE, WHOLE], "place": 0,
+    "coordinates": list(NOUGHT), "mapping": NOUGHT, "kind": {(1, 1): 1}, "kinds": [{(1, 1): 1}, {}], "net": STEP,
+    "web": WHOLE, "goal": plain(3, 1), "two": plain(3, 1), "word": [1, 0], "column": plain(3, 1), "root": (1, 1),
+    "order": [(0, 1), (1, 1), (1, 0)], "turn": NOUGHT, "at": 0, "counts": (1, 1), "joining": JOINING, "first": JOINING,
+    "second": JOINING, "slack": NOUGHT, "probe": (empty(3, 1, 1),), "outer": (1, 0), "inner": (0, 1),
+    "chain": [((1, 0), (0, 1), {(1, 1): 1})], "part": NOUGHT, "columns": list(NOUGHT), "prices": (1, -1),
+    "weights": (1, 2), "bar": (0, 1), "bars": ((0, 1), (1, 1)), "start": 0, "stop": 1, "step": 1, "many": 2,
+    "degree": 2, "name": ("up", 1), "four": (1, 2, 0, 1), "there": NOUGHT}
 
-def arguments(net, web, table):
-    """Something good for each parameter, by its name."""
-    return {"prime": 3, "tall": 1, "wide": 1, "lines": [[1]], "size": 1, "number": 2, "places": 2, "arrows": [(0, 1)],
-            "row": (1, 1), "thing": None, "sizes": (1, 1), "tables": [table], "webs": [web, web], "place": 0,
-            "coordinates": list(NOUGHT), "mapping": NOUGHT, "kind": {(1, 1): 1}, "kinds": [{(1, 1): 1}, {}],
-            "net": net, "web": web, "goal": table, "two": table, "word": [1, 0], "column": table, "root": (1, 1),
-            "order": [(0, 1), (1, 1), (1, 0)], "turn": NOUGHT, "at": 0, "counts": (1, 1)}
+# What is good for parameters that do not mean the same everywhere: in a module, then in a function.
+IN_MODULES = {
+    "one": {"tables": plain(3, 1), "solving": plain(3, 1), "maps": WHOLE, "mirrors": WHOLE, "kinds": {(1, 1): 1},
+            "roots": (1, 1), "words": STEP, "leasts": 1, "loom": (1, 1), "likeness": WHOLE,
+            "exchanges": ((WHOLE,), NOUGHT), "joinings": WHOLE, "probes": WHOLE, "middles": WHOLE,
+            "bends": {(0, 1): 1, (1, 0): 1}, "parts": NOUGHT, "generals": (1, 1), "ends": (0, 1),
+            "nearness": ((0, 1), (1, 1)), "shuttles": WHOLE, "polys": (1, 1), "pairmaps": (("up", 1),)},
+    "web": {"pairforms": BOTH_PLAIN, "pairmaps": BOTH_PLAIN},
+    "kind": {"pairs": (("up", 1),), "pairmaps": (("up", 1),), "paircounts": (("up", 1),)},
+    "part": {"nearness": 0},
+}
+IN_MODULES["other"] = IN_MODULES["one"]
+POINTS = (bare(STEP, 3, (1, 0)), bare(STEP, 3, (0, 1)))
+IN_FUNCTIONS = {
+    "behind": {"one": NOUGHT, "other": NOUGHT}, "web_before": {"web": Web(STEP, 3, (1, 1), [plain(3, 1)])},
+    "order_of_word": {"word": [1, 0, 1]}, "kind_of_counts": {"counts": {(0, 1): 1, (1, 0): 0, (1, 1): 1}},
+    "block_joining": {"outer": POINTS[0], "inner": POINTS[1]}, "bend_chain": {"one": {(1, 1): 1}},
+    "is_bending": {"one": WHOLE, "other": WHOLE}, "shown_bending": {"one": WHOLE, "other": bare(STEP, 3, (1, 1))},
+    "is_shown_bending": {"one": WHOLE, "other": WHOLE}, "carried": {"one": WHOLE, "other": WHOLE},
+    "fetched": {"one": WHOLE, "other": WHOLE}, "least_maps": {"one": ("up", 1), "other": ("far", 1)},
+    "parted_by": {"one": BOTH_PLAIN, "other": bare(PAIR, 3, (1, 1))},
+    "alike_by": {"one": BOTH_PLAIN, "other": BOTH_PLAIN},
+    "led_pairs": {"step": 0}}
+for name in ("joining_of", "is_joining_of"):
+    IN_FUNCTIONS[name] = {"one": POINTS[0], "other": POINTS[1], "into": (empty(3, 1, 0), plain(3, 1)),
+                          "onto": (plain(3, 1), empty(3, 0, 1))}
 
-
-def special(module, name, web, table):
-    """What is good for parameters that do not mean the same everywhere."""
-    both = {"tables": table, "solving": table, "maps": web, "mirrors": web, "kinds": {(1, 1): 1}, "roots": (1, 1),
-            "words": web.net, "leasts": 1, "loom": (1, 1), "likeness": web, "exchanges": ((web,), NOUGHT)}.get(module)
-    found = {"one": NOUGHT, "other": NOUGHT} if name == "behind" else {"one": both, "other": both}
-    if name == "web_before":
-        found["web"] = Web(web.net, 3, (1, 1), [plain(3, 1)])
-    if name == "order_of_word":
-        found["word"] = [1, 0, 1]
-    if name == "kind_of_counts":
-        found["counts"] = {(0, 1): 1, (1, 0): 0, (1, 1): 1}
-    return found
+# Which parameters are webs, and what is raised for others.
+NO_WEBS = {"bars": errors.NotLine, "ends": errors.NotLine, "shuttles": errors.NotStraight,
+           "pairforms": errors.NotPair, "pairmaps": errors.NotPair}
+WEBS = {"one": ("maps", "mirrors", "likeness", "joinings", "probes", "middles", "shuttles")}
+WEBS_OF = ("is_bending", "shown_bending", "is_shown_bending", "carried", "fetched", "parted_by", "alike_by")
 
 
 def given(module, name, parameters):
     """Arguments by name with which this function can be called."""
-    web = Web(STEP, 3, (1, 1), [plain(3, 1)])
-    told = {**arguments(STEP, web, plain(3, 1)), **special(module, name, web, plain(3, 1))}
+    told = {**ARGUMENTS, **{key: some[module] for key, some in IN_MODULES.items() if module in some}}
+    told.update(IN_FUNCTIONS.get(name, {}))
     return {key: told[key] for key in parameters}
+
+
+def wanted_kinds(module, name):
+    """For each parameter that has to be a Net, Web or Table: which of them."""
+    found = {"net": "net", "web": "web", "goal": "table", "two": "table"}
+    if module in ("tables", "solving"):
+        found["one"] = "table"
+    if name in WEBS_OF or (module in WEBS["one"] and name != "behind"):
+        found["one"] = found["other"] = "web"
+    if name == "word_to":
+        found["other"] = "net"
+    if name == "map_from":
+        found["column"] = "table"
+    if name == "block_joining":
+        found["outer"] = found["inner"] = "web"
+    return found
 
 
 def functions():
     for module, told in INTERFACE.items():
         for entry in told.split("; "):
             name, parameters = entry[:-1].split("(")
-            yield module, name, parameters.split(", ")
+            yield module, name, [key for key in parameters.split(", ") if key]
 
 
 class InterfaceTest(unittest.TestCase):
@@ -135,15 +227,7 @@ class InterfaceTest(unittest.TestCase):
         seen = 0
         for module, name, parameters in functions():
             thing = getattr(importlib.import_module("boughwebs." + module), name)
-            wanted = {"net": "net", "web": "web", "goal": "table", "two": "table"}
-            if module in ("tables", "solving"):
-                wanted["one"] = "table"
-            if module in ("maps", "mirrors", "likeness") and name != "behind":
-                wanted["one"] = wanted["other"] = "web"
-            if name == "word_to":
-                wanted["other"] = "net"
-            if name == "map_from":
-                wanted["column"] = "table"
+            wanted = wanted_kinds(module, name)
             if name in ("Web", "bare"):
                 continue
             good = given(module, name, parameters)
@@ -152,11 +236,11 @@ class InterfaceTest(unittest.TestCase):
                 for wrong in (None, 3, True, "net", [], (), {}, object(), ONE if wanted[key] != "net" else NOUGHT[0]):
                     told = {other: good[other] if other in places[:at] else object() for other in parameters}
                     told[key] = wrong
-                    with self.assertRaises(kinds[wanted[key]]) as caught:
+                    with self.assertRaises(NO_WEBS.get(module, kinds[wanted[key]]), msg=name) as caught:
                         thing(**told)
                     self.assertIsNone(getattr(caught.exception, "part", None))
                     seen += 1
-        self.assertGreater(seen, 800)
+        self.assertGreater(seen, 1500)
 
     def test_web_and_bare_name_the_net(self):
         for wrong in (None, 3, "net", object()):

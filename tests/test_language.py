@@ -30,7 +30,8 @@ NOT_AT_ALL = set("type typing typing_extensions enum Enum IntEnum StrEnum Flag I
                  "namedtuple NamedTuple TypedDict TYPE_CHECKING abstractmethod".split())
 AT_MODULE_LEVEL = (ast.Expr, ast.ImportFrom, ast.FunctionDef, ast.ClassDef, ast.Assign)
 ITERATED = {"zip", "enumerate", "reversed", "range", "map"}
-TAKING = {"list", "tuple", "dict", "sorted", "sum", "any", "all", "enumerate", "zip", "min", "max"}
+TAKING = {"list", "tuple", "dict", "sorted", "sum", "any", "all", "enumerate", "zip", "min", "max", "product",
+          "combinations", "permutations"}
 CHANGING = {"append", "clear", "extend", "insert", "pop", "remove", "reverse", "setdefault", "update"}
 BARRED = "_wall|_pe_|_dcw_|_enum_|_cm_|_twin_re_|_lay_|_law_|_stub_|_sre|_cold$|_record$|_outside$|_tuplegetter$"
 
