@@ -205,14 +205,14 @@ def threads(web, start, stop):
     """The columns, one for each spot, that the tables between the spots lead into one another."""
     check_spots(web, start, stop)
     order = spots_of(web.net)
-    spots = list(range(start, stop + 1))
     ahead = {}
     many = 0
-    for spot in spots:
+    for spot in range(start, stop + 1):
         ahead[spot] = many
         many += web.sizes[order[spot]]
     if many > MOST_NUMBERS:
         raise TooMany(MOST_NUMBERS)
     columns = kernel_columns(many, reduced(web.prime, _thread_equations(web, start, stop, ahead)))
-    return [tuple([tuple([column[ahead[spot] + k] % web.prime for k in range(web.sizes[order[spot]])])
-                   for spot in spots]) for column in columns]
+    cuts = [(first, first + web.sizes[order[own]]) for own, first in ahead.items()]
+    return [tuple([tuple([number % web.prime for number in column[first:last]]) for first, last in cuts])
+            for column in columns]

@@ -210,7 +210,7 @@ def _way_to(one, webs, way):
     """The map to one from the web of which this is a splitting, into the same least webs as one's."""
     others, other_way = split_web(one)
     columns = columns_of_webs(webs, way)
-    order = [at for _, at in sorted([(web.sizes, at) for at, web in enumerate(webs)])]
+    order = [at for _, at in sorted([(some.sizes, k) for k, some in enumerate(webs)])]
     found = _gathered(one, [columns[at] for at in order])
     return behind(map_back(found), other_way)
 

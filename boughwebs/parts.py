@@ -159,11 +159,11 @@ def _fillings(prime, size, firsts):
     """All lines in reduced form whose leading columns are these."""
     free = [(at, k) for at, first in enumerate(firsts) for k in range(first + 1, size) if k not in firsts]
     found = [[[1 if k == first else 0 for k in range(size)] for first in firsts]]
-    for at, k in free:
+    for at, spot in free:
         more = []
         for lines in found:
             for number in range(prime):
-                more.append([line[:k] + [number] + line[k + 1:] if row == at else line
+                more.append([line[:spot] + [number] + line[spot + 1:] if row == at else line
                              for row, line in enumerate(lines)])
         found = more
     return found
@@ -224,4 +224,4 @@ def all_parts(web):
     for at, chosen in enumerate(begun):
         tables = [chosen[place] for place in range(web.net.places)]
         told.append((row_of_part(tables), tuple([table.lines for table in tables]), at))
-    return [tuple([begun[at][place] for place in range(web.net.places)]) for _, _, at in sorted(told)]
+    return [tuple([begun[at][other] for other in range(web.net.places)]) for _, _, at in sorted(told)]

@@ -9,8 +9,8 @@ from boughwebs.parts import (all_parts, carried, common_part, fetched, is_part, 
 from boughwebs.solving import kernel, left_over, rank, tidy
 from boughwebs.tables import Table, across, beside, empty, plain, times
 from boughwebs.webs import Web, bare
-from tests.drawn import (NETS, ONE, PAIR, RING, STEP, all_tables, check_order, drawn, drawn_map, drawn_sizes, drawn_table,
-                         drawn_web, error_of, of_other_kinds, with_one_otherwise)
+from tests.drawn import (FIVE, NETS, ONE, PAIR, RING, STAR, STEP, all_tables, check_order, drawn, drawn_map,
+                         drawn_sizes, drawn_table, drawn_web, error_of, of_other_kinds, with_one_otherwise)
 
 
 def is_tidy_plainly(table):
@@ -50,6 +50,18 @@ class PartTest(unittest.TestCase):
             self.assertIs(type(found), list)
             self.assertEqual(found, all_plainly(web))
             self.assertEqual((found[0], found[-1]), (no_part(web=web), whole_part(web=web)))
+
+    def test_greater_rooms(self):
+        draw = drawn(940)
+        for net, prime, sizes in ((ONE, 2, (3,)), (ONE, 3, (3,)), (STEP, 2, (3, 2)), (STEP, 2, (2, 3))):
+            web = drawn_web(draw, net, prime, sizes)
+            self.assertEqual(all_parts(web), all_plainly(web))
+        for prime, size, many in ((2, 4, 67), (3, 4, 212), (5, 3, 64), (7, 3, 116), (2, 5, 374)):
+            web = bare(ONE, prime, (size,))
+            found = all_parts(web)
+            self.assertEqual(len({part[0].lines for part in found}), many)
+            self.assertEqual(len(found), many)
+            self.assertTrue(all(is_part_plainly(web, part) for part in found))
 
     def test_is_part(self):
         for web in small_webs(932):
@@ -153,9 +165,11 @@ class PartTest(unittest.TestCase):
 
     def test_too_many_parts(self):
         # Along an arrow with the table 0, and in one room alone.
-        for web, told in ((bare(ONE, 31, (3,)), 1988), (bare(ONE, 37, (3,)), None), (bare(STEP, 2, (5, 2)), 1870),
-                          (bare(STEP, 2, (5, 3)), None), (bare(ONE, 2, (5,)), 374), (bare(ONE, 2, (60,)), None),
-                          (bare(PAIR, 97, (60, 60)), None), (bare(ONE, 97, (2,)), 100)):
+        for web, told in ((bare(STAR, 2, (2, 2, 2, 3)), 2000), (bare(FIVE, 2, (3, 3, 1, 1, 1)), None),
+                          (bare(STAR, 2, (2, 2, 2, 2)), 625), (bare(ONE, 31, (3,)), 1988),
+                          (bare(ONE, 37, (3,)), None), (bare(STEP, 2, (5, 2)), 1870), (bare(STEP, 2, (5, 3)), None),
+                          (bare(ONE, 2, (5,)), 374), (bare(ONE, 2, (60,)), None), (bare(PAIR, 97, (60, 60)), None),
+                          (bare(ONE, 97, (2,)), 100)):
             if told is None:
                 self.assertEqual(error_of(all_parts, web), ("TooMany", 2000))
             else:
