@@ -115,7 +115,8 @@ def _chain_between(net, one, other):
     least = maps_from_all(forms, one)
     known = {}
     found = []
-    kind = other
+    # Roots ascending: equal kinds may be told in unlike orders, and have equal chains.
+    kind = kind_of_pairs(list(other.items()))
     while kind != one:
         block = _block_back(net, forms, least, kind, known)
         kind = _taken_back(kind, block)

@@ -65,7 +65,8 @@ class BarsTest(unittest.TestCase):
             for thing in of_other_kinds(tuple(bars[:3])):
                 self.assertIs(is_bars(net, thing), False)
             self.assertIs(is_bars(net, tuple(bars[::-1])), len(bars) == 1)
-            for thing in (list(bars), [], None, {}, "", bars[0], (None,)):
+            for thing in (list(bars), [], None, {}, "", bars[0], (None,), ((0, last + 1),), ((last + 1, last + 1),),
+                          ((-1, 0),), ((0, last), (0, last, 0))):
                 self.assertIs(is_bars(net, thing), False)
 
     def test_bar_webs(self):
@@ -155,6 +156,10 @@ class SplitLineTest(unittest.TestCase):
         self.assertIs(is_split_line(web, (((0, 2), (1, 1)), unit)), False)
         self.assertIs(is_split_line(web, (((0, 1), (1, 1), (2, 2)), unit)), False)
         self.assertIs(is_split_line(web, (((1, 2), (0, 1)), unit)), False)
+        # What is no bar of the line, and rooms that no web has.
+        self.assertIs(is_split_line(web, (((0, 1), (1, 3)), unit)), False)
+        self.assertIs(is_split_line(web, (((0, 1), (1, 2)) * 31, unit)), False)
+        self.assertIs(is_split_line(web, (((0, 1),) * 61, unit)), False)
 
     def test_example(self):
         for first, second, told in (([[1], [0]], [[2], [0]], ((0, 2), (1, 1))),

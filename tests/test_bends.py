@@ -11,7 +11,7 @@ from boughwebs.leasts import least_web
 from boughwebs.maps import count_maps
 from boughwebs.middles import middle_web
 from boughwebs.mirrors import mirrored_net
-from boughwebs.nets import sinks, sources, turned_net
+from boughwebs.nets import Net, sinks, sources, turned_net
 from boughwebs.roots import mirrored_row, roots
 from boughwebs.solving import is_whole
 from boughwebs.splits import kind_of, whole_of
@@ -123,6 +123,9 @@ class ChainTest(unittest.TestCase):
         self.assertIs(type(found), list)
         self.assertIs(is_bend_chain(net=net, one=one, other=other, thing=found), True)
         self.assertEqual(bend_chain(net, one, other), found)
+        # Equal kinds, but with their roots in another order.
+        turned = [dict(list(kind.items())[::-1]) for kind in (one, other)]
+        self.assertEqual(bend_chain(net, *turned), found)
         kind = dict(other)
         told = [kind]
         for block in found:
@@ -316,6 +319,21 @@ class BendingTest(unittest.TestCase):
         self.assertIs(is_bending(both, whole, ([(nothing, outer, inner, (plain(5, 1),), turn)], turn)), False)
         other = bare(STEP, 3, (1, 0))
         self.assertIs(is_bending(whole, both, ([(nothing, other, inner, (plain(5, 1),), turn)], turn)), False)
+
+    def test_one_web_otherwise(self):
+        whole, both = Web(STEP, 5, (1, 1), [plain(5, 1)]), bare(STEP, 5, (1, 1))
+        webs = [bare(STEP, 5, sizes) for sizes in ((0, 0), (1, 0), (0, 1))]
+        turn = (plain(5, 1), plain(5, 1))
+        for at in range(3):
+            # Of another prime, of other nets, of rooms too great, and none.
+            others = [bare(STEP, 3, webs[at].sizes), bare(Net(2, [(1, 0)]), 5, webs[at].sizes),
+                      bare(PAIR, 5, webs[at].sizes), bare(STEP, 5, (60, 60)), bare(STEP, 5, (1, 1)), None, "web"]
+            for other in others:
+                step = tuple(webs[:at] + [other] + webs[at + 1:]) + ((plain(5, 1),), turn)
+                self.assertIs(is_bending(whole, both, ([step], turn)), False)
+                for joining in ((empty(5, 1, 60),), (empty(5, 60, 1),), (), (plain(5, 1), plain(5, 1))):
+                    self.assertIs(is_bending(whole, both, ([step[:3] + (joining, turn)], turn)), False)
+        self.assertIs(is_bending(whole, both, ([tuple(webs) + ((plain(5, 1),), turn)], turn)), True)
 
     def test_errors_in_their_order(self):
         web = bare(STEP, 3, (1, 1))

@@ -176,6 +176,8 @@ class BlockJoiningTest(unittest.TestCase):
         # Of the right sizes, but with two maps to itself.
         twice = bare(STRAIGHT, 3, (0, 1, 1))
         self.assertEqual(error_of(block_joining, bare(STRAIGHT, 3, (1, 0, 0)), twice, {(1, 1, 1): 1}), ("NotSo",))
+        twice = bare(STRAIGHT, 3, (1, 1, 0))
+        self.assertEqual(error_of(block_joining, twice, bare(STRAIGHT, 3, (0, 0, 1)), {(1, 1, 1): 1}), ("NotSo",))
         whole = Web(STRAIGHT, 3, (0, 1, 1), [Table(3, 1, 0, [[]]), plain(3, 1)])
         self.check_joining(bare(STRAIGHT, 3, (1, 0, 0)), whole, {(1, 1, 1): 1})
         self.assertEqual(error_of(block_joining, bare(ONE, 3, (1,)), bare(ONE, 3, (1,)), {(1,): 2}), ("NotSo",))

@@ -137,6 +137,8 @@ class MirroredTest(unittest.TestCase):
 
     def test_errors_in_their_order(self):
         good = {"net": STRAIGHT, "place": 0, "bars": ((0, 1),)}
+        for bar in ((0, 3), (3, 3), (1, 4), (-1, 0), (2, 1)):
+            self.assertEqual(error_of(mirrored_bars, STRAIGHT, 0, ((0, 1), bar)), ("BadBars", 1))
         for place in (None, -1, 3, True, 0.0):
             check_order(self, mirrored_bars, good, [
                 ("net", PAIR, ("NotLine",)), ("place", place, ("BadPlace",)), ("bars", None, ("BadBars", None))])

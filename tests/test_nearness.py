@@ -120,6 +120,13 @@ class PairingTest(unittest.TestCase):
         self.assertIs(is_pairing(((1, 3),), (), 1, ()), False)
         self.assertIs(is_pairing(((0, 7),), ((0, 7),), 0, (((0, 7), (0, 7)),)), True)
         self.assertIs(is_pairing(((1, 1), (1, 1)), ((1, 1),), 0, (((1, 1), (1, 1)),)), False)
+        # Pairs of bars that are not there, and what is no pair.
+        self.assertIs(is_pairing((), (), 1, (((1, 1), (1, 1)),)), False)
+        self.assertIs(is_pairing(one, other, 1, (((0, 2), (1, 3)), ((0, 3), (1, 3)))), False)
+        self.assertIs(is_pairing(one, other, 1, (((0, 3), (0, 3)), ((0, 3), (1, 3)))), False)
+        self.assertIs(is_pairing(one, other, 1, (((0, 3), (1, 3), (1, 3)),)), False)
+        self.assertIs(is_pairing(one, other, 1, (((0, 3),),)), False)
+        self.assertIs(is_pairing(((0, 7),), ((0, 7),), 1, (((0, 7), (0, 8)),)), False)
 
     def test_barriers_judged(self):
         seen = {True: 0, False: 0}
@@ -147,6 +154,9 @@ class PairingTest(unittest.TestCase):
         self.assertIs(is_barrier(((0, 2), (0, 2)), ((0, 2),), 0, (0, ((0, 2),))), False)
         self.assertIs(is_barrier(((0, 2), (0, 2)), ((0, 2),), 0, (0, ((0, 2),) * 3)), False)
         self.assertIs(is_barrier(((0, 2), (0, 3)), (), 0, (0, ((0, 3), (0, 2)))), False)
+        for side, told in ((0, False), (1, True), (2, False), (-1, False), (True, False), (None, False)):
+            self.assertIs(is_barrier((), ((0, 2),), 1, (side, ((0, 2),))), told)
+        self.assertIs(is_barrier(((0, 2),), (), 1, (0, ((0, 3),))), False)
 
     def test_errors_in_their_order(self):
         good = {"one": ((0, 1), (2, 3)), "other": ((0, 1), (2, 2)), "step": 1}

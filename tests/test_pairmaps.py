@@ -154,6 +154,22 @@ class ApartTest(unittest.TestCase):
         self.assertEqual(parted_by(bare(PAIR, 3, (1, 0)), bare(PAIR, 3, (0, 1))), (("down", 0), 1, 0))
         self.assertIsNone(parted_by(bare(PAIR, 3, (0, 0)), bare(PAIR, 3, (0, 0))))
 
+    def test_what_tells_late(self):
+        quads = [("turn", poly, 1) for poly in bare_polys(3, 2)]
+        for first, second, told in (
+                ((("up", 1), ("up", 3)), (("up", 2),) * 2, (("up", 3), 1, 0)),
+                ((("up", 4), ("up", 6)), (("up", 5),) * 2, (("up", 6), 1, 0)),
+                ((("down", 1), ("down", 3)), (("down", 2),) * 2, (("down", 1), 1, 0)),
+                ((("down", 5),) * 2, (("down", 4), ("down", 6)), (("down", 4), 0, 1)),
+                ((quads[0],), (quads[1],), (quads[0], 2, 0)),
+                # The polynomials tell at the same sum, but behind the far.
+                ((("far", 1), ("far", 3), quads[0]), (("far", 2), ("far", 2), quads[1]), (("far", 2), 3, 4)),
+                ((("turn", (1, 1), 1), ("turn", (1, 1), 3), quads[0]), (("turn", (1, 1), 2),) * 2 + (quads[1],),
+                 min([(quads[0], 2, 0), (quads[1], 0, 2), (("turn", (1, 1), 2), 3, 4)]))):
+            webs = [sum_of_kind(3, tuple(sorted(kind))) for kind in (first, second)]
+            self.assertEqual(parted_by(*webs), told)
+            self.assertIsNone(alike_by(*webs))
+
     def test_errors_in_their_order(self):
         web = bare(PAIR, 3, (1, 1))
         for wrong in NO_PAIRS:
