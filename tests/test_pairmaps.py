@@ -161,6 +161,9 @@ class ApartTest(unittest.TestCase):
                 ((("up", 4), ("up", 6)), (("up", 5),) * 2, (("up", 6), 1, 0)),
                 ((("down", 1), ("down", 3)), (("down", 2),) * 2, (("down", 1), 1, 0)),
                 ((("down", 5),) * 2, (("down", 4), ("down", 6)), (("down", 4), 0, 1)),
+                # Fars tell here, too, but later.
+                ((("down", 2), ("down", 4), ("far", 2), ("far", 4)), (("down", 3), ("far", 3)) * 2, (("down", 2), 1, 0)),
+                ((("up", 2), ("up", 4), ("far", 4), ("far", 6)), (("up", 3), ("far", 5)) * 2, (("up", 4), 11, 10)),
                 ((quads[0],), (quads[1],), (quads[0], 2, 0)),
                 # The polynomials tell at the same sum, but behind the far.
                 ((("far", 1), ("far", 3), quads[0]), (("far", 2), ("far", 2), quads[1]), (("far", 2), 3, 4)),
