@@ -97,6 +97,32 @@ class SplitPairTest(unittest.TestCase):
             self.assertEqual(self.judged(web)[0], told)
         self.assertEqual(self.judged(bare(PAIR, 2, (0, 0))), ((), [empty(2, 0, 0)] * 2))
 
+    def test_pairs_that_no_mixture_of_the_tables_tells(self):
+        # Over 2 and 3 each sum of multiples of both tables leads something to 0.
+        draw = drawn(1228)
+        two = (("far", 1), ("turn", (0, 1), 1), ("turn", (1, 1), 1))
+        three = (("far", 2), ("turn", (0, 1), 1), ("turn", (1, 1), 2), ("turn", (2, 1), 1))
+        for prime, regular in ((2, two), (3, three)):
+            for more in ((), (("up", 4),), (("down", 3),), (("down", 2), ("up", 3)), (("up", 0), ("up", 5)),
+                         (("down", 1), ("down", 4), ("up", 0), ("up", 2)), (("down", 0), ("down", 0))):
+                kind = tuple(sorted(regular + more))
+                web = turned_about(draw, sum_of_kind(prime, kind))
+                self.assertEqual(self.judged(web)[0], kind)
+
+    def test_many_drawn_sums(self):
+        draw = drawn(1229)
+        for prime in BARE:
+            for _ in range(12):
+                kind = drawn_names(draw, prime, 14)
+                web = turned_about(draw, sum_of_kind(prime, kind))
+                self.assertEqual(self.judged(web)[0], kind)
+
+    def test_sums_as_they_are_made(self):
+        for prime, kind in ((2, (("down", 2), ("far", 2), ("turn", (1, 1, 0, 1), 1), ("turn", (1, 1, 1), 1), ("up", 2))),
+                            (97, (("turn", (1, 1), 1),) * 12),
+                            (97, (("down", 0), ("down", 1), ("down", 2), ("down", 3)))):
+            self.assertEqual(self.judged(sum_of_kind(prime, kind))[0], kind)
+
     def test_example(self):
         web = Web(pair_net(), 2, (2, 2), [plain(2, 2), Table(2, 2, 2, [[0, 1], [1, 1]])])
         self.assertEqual(kind_of_pair(web), (("turn", (1, 1, 1), 1),))
