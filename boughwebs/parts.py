@@ -6,10 +6,10 @@ from boughwebs.checks import is_list
 from boughwebs.errors import BadPart, BadTable, TooMany
 from boughwebs.maps import check_map, web_into, web_onto
 from boughwebs.nets import sink_order
-from boughwebs.solving import kernel, left_over
+from boughwebs.solving import kernel, left_over, reduced, sparse
 from boughwebs.spans import common_span, fetched_span, is_in_span, is_tidy, span_of, tidied
 from boughwebs.tables import Table, empty, plain, times
-from boughwebs.webs import check_web
+from boughwebs.webs import check_web, turned_web
 
 MOST_PARTS = 2000
 
@@ -184,31 +184,96 @@ def _all_spaces(prime, size):
     return found
 
 
-def _room_for(web, chosen, place):
-    """The tidy columns of all that arrows lead from the place into what is chosen at their heads."""
-    lines = [times(left_over(chosen[head]), table)
-             for table, (tail, head) in zip(web.tables, web.net.arrows) if tail == place]
-    found = plain(web.prime, web.sizes[place])
-    for line in lines:
-        found = tidied(times(found, kernel(times(line, found))))
+def _outflows(web):
+    """For each place the pairs (head, Table) of the arrows that lead away from it."""
+    found = [[] for _ in web.sizes]
+    for table, (tail, head) in zip(web.tables, web.net.arrows):
+        found[tail].append((head, table))
     return found
 
 
-def _chosen_further(web, begun, place, known):
-    """All begun choices of columns, with all that can be chosen at the place; TooMany(2000) if there are more.
+def _led_to_nothing(prime, size, tables):
+    """How many dimensions of columns of this size all these Tables lead to 0."""
+    lines = [line for table in tables for line in table.lines]
+    return size - len(reduced(prime, sparse(lines))) if lines else size
 
-    Each choice can go on with no columns at all, so that there are at least as many parts.
-    """
-    rooms = [_room_for(web, chosen, place) for chosen in begun]
-    if sum([_count_spaces(web.prime, room.wide) for room in rooms]) > MOST_PARTS:
+
+def _free_spaces(web):
+    """For each place how many spaces all arrows lead to 0: whatever is chosen at their heads, these can be chosen."""
+    return [_count_spaces(web.prime, _led_to_nothing(web.prime, size, [table for _, table in some]))
+            for size, some in zip(web.sizes, _outflows(web))]
+
+
+def _product(numbers):
+    found = 1
+    for number in numbers:
+        found = found * number
+    return found
+
+
+def _check_many(many):
+    if many > MOST_PARTS:
         raise TooMany(MOST_PARTS)
+
+
+def _check_at_once(web, free):
+    """TooMany(2000) if rooms alone tell that there are more parts.
+
+    Parts are: at each place any space that is led to 0; or any that lies over all that is led in;
+    or any at one place, with the whole rooms at all to which it may lead, and nothing elsewhere.
+    """
+    _check_many(_product(free))
+    _check_many(1 + sum([_count_spaces(web.prime, size) - 1 for size in web.sizes]))
+    _check_many(_product(_free_spaces(turned_web(web))))
+
+
+def _room_for(prime, size, outflow, chosen):
+    """The tidy columns, of this size, of all that arrows lead into what is chosen at their heads."""
+    found = plain(prime, size)
+    for head, table in outflow:
+        if chosen[head].wide < chosen[head].tall:
+            line = times(left_over(chosen[head]), times(table, found))
+            found = tidied(times(found, kernel(line)))
+    return found
+
+
+def _spaces_in(room, known):
+    """The tidy columns of all spaces in the room."""
+    if room.wide not in known:
+        known[room.wide] = _all_spaces(room.prime, room.wide)
+    if room.wide == room.tall:
+        return known[room.wide]
+    return [times(room, columns) for columns in known[room.wide]]
+
+
+def _rooms_for(web, begun, place, later):
+    """For each begun choice the room at the place; TooMany(2000) if there are more parts, later as many times."""
+    outflow = _outflows(web)[place]
+    heads = sorted({head: True for head, _ in outflow})
+    known = {}
     found = []
-    for chosen, room in zip(begun, rooms):
-        if room.wide not in known:
-            known[room.wide] = _all_spaces(web.prime, room.wide)
-        for columns in known[room.wide]:
-            more = {other: chosen[other] for other in chosen}
-            more[place] = times(room, columns)
+    many = len(begun)
+    # The greatest choices leave the greatest rooms: they come last.
+    for chosen in reversed(begun):
+        key = tuple([chosen[head].lines for head in heads])
+        if key not in known:
+            known[key] = _room_for(web.prime, web.sizes[place], outflow, chosen)
+        many += _count_spaces(web.prime, known[key].wide) - 1
+        _check_many(many * later)
+        found.append((chosen, key, known[key]))
+    return found
+
+
+def _chosen_further(web, begun, place, later, known):
+    """All begun choices of columns, with all that can be chosen at the place."""
+    spaces = {}
+    found = []
+    for chosen, key, room in reversed(_rooms_for(web, begun, place, later)):
+        if key not in spaces:
+            spaces[key] = _spaces_in(room, known)
+        for columns in spaces[key]:
+            more = list(chosen)
+            more[place] = columns
             found.append(more)
     return found
 
@@ -216,12 +281,13 @@ def _chosen_further(web, begun, place, known):
 def all_parts(web):
     """All parts, ascending by rows, then by their lines place by place."""
     check_web(web)
-    begun = [{}]
+    free = _free_spaces(web)
+    _check_at_once(web, free)
+    begun = [[None] * web.net.places]
+    order = sink_order(web.net)
     known = {}
-    for place in sink_order(web.net):
-        begun = _chosen_further(web, begun, place, known)
-    told = []
-    for at, chosen in enumerate(begun):
-        tables = [chosen[place] for place in range(web.net.places)]
-        told.append((row_of_part(tables), tuple([table.lines for table in tables]), at))
-    return [tuple([begun[at][other] for other in range(web.net.places)]) for _, _, at in sorted(told)]
+    for at, place in enumerate(order):
+        later = _product([free[other] for other in order[at + 1:]])
+        begun = _chosen_further(web, begun, place, later, known)
+    told = [(row_of_part(tables), tuple([table.lines for table in tables]), at) for at, tables in enumerate(begun)]
+    return [tuple(begun[at]) for _, _, at in sorted(told)]

@@ -1,16 +1,20 @@
 """Point [100]: parts of a web, what they are made of, and all of them."""
 
 import unittest
+import unittest.mock
 from itertools import product
 
+from boughwebs import parts
 from boughwebs.maps import is_map, kernel_web, image_web
+from boughwebs.nets import Net
 from boughwebs.parts import (all_parts, carried, common_part, fetched, is_part, is_within, no_part, part_from, part_row,
                              part_sum, part_web, rest_of_part, whole_part)
 from boughwebs.solving import kernel, left_over, rank, tidy
 from boughwebs.tables import Table, across, beside, empty, plain, times
 from boughwebs.webs import Web, bare
-from tests.drawn import (FIVE, NETS, ONE, PAIR, RING, STAR, STEP, all_tables, check_order, drawn, drawn_map,
-                         drawn_sizes, drawn_table, drawn_web, error_of, of_other_kinds, with_one_otherwise)
+from tests.drawn import (CLASH, FIVE, NETS, ONE, PAIR, RING, SPREAD, STAR, STEP, STRAIGHT, all_tables, check_order,
+                         drawn, drawn_map, drawn_sizes, drawn_table, drawn_web, error_of, of_other_kinds,
+                         with_one_otherwise)
 
 
 def is_tidy_plainly(table):
@@ -40,6 +44,48 @@ def small_webs(seed, many=2):
             prime = draw.choice((2, 3))
             most = 2 if net.places < 4 else 1
             yield drawn_web(draw, net, prime, drawn_sizes(draw, net, most if prime == 2 else 1 if net.places > 2 else 2))
+
+
+def spaces_of(prime, size):
+    """All spaces of columns of this size, as sets of columns."""
+    found, left = {frozenset([(0,) * size])}, [frozenset([(0,) * size])]
+    while left:
+        space = left.pop()
+        for column in product(range(prime), repeat=size):
+            if column not in space:
+                more = frozenset(tuple((a + k * b) % prime for a, b in zip(some, column))
+                                 for some in space for k in range(prime))
+                if more not in found:
+                    found.add(more)
+                    left.append(more)
+    return found
+
+
+def count_plainly(web, most):
+    """How many parts the web has, or the most if there are more: all choices of spaces, place by place."""
+    known = {size: list(spaces_of(web.prime, size)) for size in set(web.sizes)}
+    images = {}
+
+    def led(at, space):
+        if (at, space) not in images:
+            lines = web.tables[at].lines
+            images[at, space] = frozenset(tuple(sum(a * b for a, b in zip(line, column)) % web.prime for line in lines)
+                                          for column in space)
+        return images[at, space]
+
+    def count(chosen, place):
+        if place == web.net.places:
+            return 1
+        many = 0
+        for space in known[web.sizes[place]]:
+            some = chosen + [space]
+            if all(led(at, some[tail]) <= some[head] for at, (tail, head) in enumerate(web.net.arrows)
+                   if max(tail, head) == place):
+                many += count(some, place + 1)
+                if many >= most:
+                    return most
+        return many
+    return count([], 0)
 
 
 class PartTest(unittest.TestCase):
@@ -176,6 +222,41 @@ class PartTest(unittest.TestCase):
                 self.assertEqual(len(all_parts(web)), told)
         chain = Web(RING, 2, (3, 3, 3), [plain(2, 3), plain(2, 3), plain(2, 3)])
         self.assertEqual(len(all_parts(chain)), len(all_plainly(chain)))
+
+    def test_too_many_parts_are_known_of_soon(self):
+        four = Net(4, [(0, 1), (1, 2), (2, 3)])
+        draw = drawn(941)
+        webs = [bare(STEP, 5, (4, 4)), bare(four, 2, (6, 3, 3, 2)), bare(four, 2, (4, 2, 3, 3)),
+                Web(STEP, 5, (4, 4), [plain(5, 4)]), bare(STEP, 2, (60, 60)),
+                Web(four, 2, (4, 4, 4, 4), [drawn_table(draw, 2, 4, 4) for _ in range(3)])]
+        for web in webs:
+            with unittest.mock.patch("boughwebs.parts._room_for", wraps=parts._room_for) as room_for:
+                self.assertEqual(error_of(all_parts, web), ("TooMany", 2000))
+            # Not a room for each of a thousand begun parts.
+            self.assertLess(room_for.call_count, 100)
+
+    def test_all_parts_near_the_limit(self):
+        four = Net(4, [(0, 1), (1, 2), (2, 3)])
+        draw = drawn(942)
+        seen = 0
+        for net, prime, sizes in ((STEP, 2, (4, 4)), (STEP, 3, (3, 3)), (four, 2, (3, 3, 3, 3)), (STRAIGHT, 2, (3, 4, 3)),
+                                  (CLASH, 2, (3, 4, 3)), (SPREAD, 2, (3, 4, 3)), (STAR, 2, (2, 2, 2, 4)),
+                                  (PAIR, 2, (4, 4)), (RING, 2, (3, 3, 3)), (STEP, 5, (2, 2))):
+            for _ in range(12):
+                web = drawn_web(draw, net, prime, sizes, draw.choice((0.2, 0.5, 0.8)))
+                many = count_plainly(web, 2001)
+                if many > 2000:
+                    self.assertEqual(error_of(all_parts, web), ("TooMany", 2000))
+                else:
+                    found = all_parts(web)
+                    self.assertEqual(len(found), many)
+                    self.assertEqual(found, sorted(found, key=lambda part: (
+                        tuple(table.wide for table in part), tuple(table.lines for table in part))))
+                    self.assertEqual(len({tuple(table.lines for table in part) for part in found}), many)
+                    seen += many > 500
+        self.assertGreater(seen, 10)
+        self.assertEqual(len(all_parts(bare(STAR, 2, (2, 2, 2, 3)))), 2000)
+        self.assertEqual(len(all_parts(bare(STEP, 2, (5, 2)))), 1870)
 
     def test_errors_in_their_order(self):
         web = Web(STEP, 3, (1, 1), [plain(3, 1)])
