@@ -99,7 +99,8 @@ def spots_behind(net, place, turn):
     return along + [(head, turn + 1) for tail, head in net.arrows if tail == place]
 
 
-def _spots_ahead(net, place, turn):
+def spots_ahead(net, place, turn):
+    """The spots of the predecessors of a root at this spot, and perhaps some at which no root stands."""
     along = [(head, turn) for tail, head in net.arrows if tail == place]
     return along + [(tail, turn - 1) for tail, head in net.arrows if head == place]
 
@@ -119,7 +120,7 @@ def predecessors(net, root):
     check_root(net, root)
     spots = _spots(net)
     place, turn = spots[root]
-    return _roots_at(spots, _spots_ahead(net, place, turn))
+    return _roots_at(spots, spots_ahead(net, place, turn))
 
 
 def maps_ahead(net, root):
