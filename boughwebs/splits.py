@@ -85,12 +85,11 @@ def is_least(web):
     return _parting_turn(web) is None and any(web.sizes)
 
 
-def peel(web):
+def peel_loose(loose):
     """The mirrors at the least sink, step by step, until all rooms are empty.
 
     Triples of the web ahead of the step, the place, and which coordinates split off as points.
     """
-    loose = loosened(web)
     steps = []
     while any(loose.sizes):
         place = least_end(loose.arrows, len(loose.sizes))
@@ -100,18 +99,28 @@ def peel(web):
     return steps
 
 
+def peel(web):
+    """What peel_loose tells of a Web."""
+    return peel_loose(loosened(web))
+
+
 def rows_of_steps(net, steps):
     """For each step the row of its points in the net from which the steps begin."""
     return rows_met(net, [place for loose, place, spare in steps])
+
+
+def kind_of_loose(net, loose):
+    """The kind of a web on this good net, told by plain lists."""
+    steps = peel_loose(loose)
+    rows = rows_of_steps(net, steps)
+    return kind_of_pairs([(row, len(spare)) for row, (_, place, spare) in zip(rows, steps) if spare])
 
 
 def kind_of(web):
     """The kind whose whole_of is alike to the web."""
     check_web(web)
     check_good(web.net)
-    steps = peel(web)
-    rows = rows_of_steps(web.net, steps)
-    return kind_of_pairs([(row, len(spare)) for row, (loose, place, spare) in zip(rows, steps) if spare])
+    return kind_of_loose(web.net, loosened(web))
 
 
 def _led_back(loose, place, tables, least, columns):
