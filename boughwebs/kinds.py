@@ -136,7 +136,7 @@ def kinds_of(net, row):
     for (tail, head), root in zip(apart, joined):
         begun = _with_arrow(begun, tail, head, root)
     found = [sorted(pairs + [(unit, many) for unit, many in zip(units, left) if many]) for left, pairs in begun]
-    return [{root: many for root, many in pairs} for pairs in sorted(found)]
+    return [{one: many for one, many in pairs} for pairs in sorted(found)]
 
 
 def _pair_sum(net, one, other, sign):

@@ -83,9 +83,9 @@ def map_from(web, place, column):
     for some in ways:
         _check_ways(some)
     led = {(): [line[0] for line in column.lines]}
-    for _, way in sorted([(len(way), way) for some in ways for way in some if way]):
-        ahead = led[way[:-1]]
-        led[way] = [sum([a * b for a, b in zip(line, ahead)]) for line in web.tables[way[-1]].lines]
+    for _, longer in sorted([(len(way), way) for some in ways for way in some if way]):
+        ahead = led[longer[:-1]]
+        led[longer] = [sum([a * b for a, b in zip(line, ahead)]) for line in web.tables[longer[-1]].lines]
     return tuple([Table(web.prime, size, len(some), [[led[way][k] for way in some] for k in range(size)])
                   for size, some in zip(web.sizes, ways)])
 

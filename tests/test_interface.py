@@ -10,10 +10,17 @@ import os
 import unittest
 
 from boughwebs import errors
+from boughwebs.desk import Desk
+from boughwebs.fivelines import five_of, hidden_map
+from boughwebs.fourlines import least_four
 from boughwebs.kinds import general_kind, kinds_of, sum_kind
+from boughwebs.loft import Loft
 from boughwebs.mirrors import point_web
+from boughwebs.partcounts import part_tallies
 from boughwebs.tables import empty, plain
+from boughwebs.texts import net_text, table_text, web_text
 from boughwebs.webs import Web, bare
+from boughwebs.wholes import Whole
 from tests.drawn import ONE, PAIR, STEP
 
 PACKAGE = os.path.join(os.path.dirname(os.path.dirname(os.path.abspath(__file__))), "boughwebs")
@@ -110,12 +117,47 @@ INTERFACE = {
                 "turned_kind(prime, kind)",
     "paircounts": "self_maps(prime, kind); many_of_kind(prime, kind); kinds_of_sizes(prime, sizes); "
                   "common_kind(prime, sizes)",
+    "fourlines": "four_net(); step_on(web); step_back(web); is_four_name(prime, thing); four_sizes(prime, name); "
+                 "least_four(prime, name); are_fours(prime, thing); sum_of_fours(prime, kind)",
+    "fourforms": "split_four(web); kind_of_four(web); is_split_four(web, thing); cross_number(web); "
+                 "four_maps(prime, one, other); fours_maps(prime, one, other); fours_joinings(prime, one, other)",
+    "rounds": "family_place(net); rest_net(net); defect(net, row); points(prime); family_web(net, prime, point); "
+              "family_point(web); unlike_webs(net, prime, row)",
+    "fivelines": "is_double_map(one, other, thing); five_net(); five_of(double); double_of(web); hidden(web); "
+                 "hidden_map(one, other, mapping); shown_map(one, other, thing)",
+    "loft": "Loft(web); own(loft); owns(loft); told_kind(loft); loosening(loft); is_loosening(loft, thing)",
+    "journals": "view(loft); journal_of(loft); first_wrong(web, thing); replayed(web, journal)",
+    "texts": "net_text(net); read_net(text); table_text(table); read_table(text); web_text(web); read_web(text); "
+             "kind_text(net, kind); read_kind(net, text)",
+    "tallies": "is_tally(thing); tally_at(tally, number); tally_sum(tallies); tally_product(tallies); "
+               "tally_less(one, other); tally_through(one, other); whole_tally(size); choices_tally(size, part)",
+    "countings": "web_tally(net, row); turns_tally(net, kind); kind_tally(net, kind)",
+    "classes": "thin_tally(net, row); class_tally(net, row)",
+    "partcounts": "part_tallies(net, kind)",
+    "steadycounts": "steady_tally(net, prices, weights, row); ladder_tally(net, prices, weights, rows)",
+    "wholetables": "determinant(lines)",
+    "wholes": "Whole(net, sizes, tables); modulo(whole, prime); sum_of_wholes(wholes); "
+              "changed_whole(whole, coordinates)",
+    "evenwholes": "least_whole(net, root); even_whole(net, kind)",
+    "wholekinds": "kind_at(whole, prime); hurdle(whole, root); bad_number(whole); kind_of_whole(whole); "
+                  "bad_primes(whole)",
+    "wholesplits": "whole_split(whole, prime); is_whole_split(whole, thing)",
+}
+METHODS = {
+    ("loft", "Loft"): "add(other); turn(coordinates); put(at, table); fade(at); loosen(part); keep(part); lose(part); "
+                      "mirror(place); settle(); undo(); attempt(work); log(); copy()",
+    ("desk", "Desk"): "say(line)",
 }
 
 NOUGHT = (plain(3, 1), plain(3, 1))
 WHOLE = Web(STEP, 3, (1, 1), [plain(3, 1)])
 JOINING = (plain(3, 1),)
 BOTH_PLAIN = Web(PAIR, 3, (1, 1), [plain(3, 1), plain(3, 1)])
+FOUR = least_four(3, ("turn", (1, 1), 1))
+DOUBLE = (plain(3, 1), plain(3, 1))
+SIX = Whole(STEP, (1, 1), [[[6]]])
+FADED = Loft(WHOLE)
+FADED.fade(0)
 
 ARGUMENTS = {
     "prime": 3, "tall": 1, "wide": 1, "lines": [[1]], "size": 1, "number": 2, "places": 2, "arrows": [(0, 1)],
@@ -126,7 +168,9 @@ ARGUMENTS = {
     "second": JOINING, "slack": NOUGHT, "probe": (empty(3, 1, 1),), "outer": (1, 0), "inner": (0, 1),
     "chain": [((1, 0), (0, 1), {(1, 1): 1})], "part": NOUGHT, "columns": list(NOUGHT), "prices": (1, -1),
     "weights": (1, 2), "bar": (0, 1), "bars": ((0, 1), (1, 1)), "start": 0, "stop": 1, "step": 1, "many": 2,
-    "degree": 2, "name": ("up", 1), "four": (1, 2, 0, 1), "there": NOUGHT}
+    "degree": 2, "name": ("up", 1), "four": (1, 2, 0, 1), "there": NOUGHT, "point": (1, 2), "double": DOUBLE,
+    "loft": FADED, "journal": [(("fade", 0), (((0, 1),), (1, 1), (0,)))], "tally": (1, 0, 2), "rows": [(0, 1), (1, 0)],
+    "tallies": [(1, 1), (2,)], "whole": SIX, "wholes": [SIX, SIX], "table": plain(3, 1)}
 
 # What is good for parameters that do not mean the same everywhere: in a module, then in a function.
 IN_MODULES = {
@@ -134,10 +178,18 @@ IN_MODULES = {
             "roots": (1, 1), "words": STEP, "leasts": 1, "loom": (1, 1), "likeness": WHOLE,
             "exchanges": ((WHOLE,), NOUGHT), "joinings": WHOLE, "probes": WHOLE, "middles": WHOLE,
             "bends": {(0, 1): 1, (1, 0): 1}, "parts": NOUGHT, "generals": (1, 1), "ends": (0, 1),
-            "nearness": ((0, 1), (1, 1)), "shuttles": WHOLE, "polys": (1, 1), "pairmaps": (("up", 1),)},
-    "web": {"pairforms": BOTH_PLAIN, "pairmaps": BOTH_PLAIN},
-    "kind": {"pairs": (("up", 1),), "pairmaps": (("up", 1),), "paircounts": (("up", 1),)},
-    "part": {"nearness": 0},
+            "nearness": ((0, 1), (1, 1)), "shuttles": WHOLE, "polys": (1, 1), "pairmaps": (("up", 1),),
+            "fourforms": (("early", 1, 2),), "fivelines": WHOLE, "tallies": (1, 1)},
+    "web": {"pairforms": BOTH_PLAIN, "pairmaps": BOTH_PLAIN, "fourlines": FOUR, "fourforms": FOUR,
+            "rounds": BOTH_PLAIN},
+    "net": {"rounds": PAIR},
+    "kind": {"pairs": (("up", 1),), "pairmaps": (("up", 1),), "paircounts": (("up", 1),),
+             "fourlines": (("early", 1, 2),)},
+    "name": {"fourlines": ("early", 1, 2)},
+    "part": {"nearness": 0, "tallies": 1},
+    "prices": {"steadycounts": (-1, 1)},
+    "tables": {"wholes": [[[6]]]},
+    "coordinates": {"wholes": [[[1]], [[-1]]]},
 }
 IN_MODULES["other"] = IN_MODULES["one"]
 POINTS = (bare(STEP, 3, (1, 0)), bare(STEP, 3, (0, 1)))
@@ -150,6 +202,10 @@ IN_FUNCTIONS = {
     "fetched": {"one": WHOLE, "other": WHOLE}, "least_maps": {"one": ("up", 1), "other": ("far", 1)},
     "parted_by": {"one": BOTH_PLAIN, "other": bare(PAIR, 3, (1, 1))},
     "alike_by": {"one": BOTH_PLAIN, "other": BOTH_PLAIN},
+    "four_maps": {"one": ("early", 1, 2), "other": ("late", 1, 2)}, "is_double_map": {"one": DOUBLE, "other": DOUBLE},
+    "double_of": {"web": five_of(DOUBLE)}, "shown_map": {"thing": hidden_map(WHOLE, WHOLE, NOUGHT)},
+    "read_net": {"text": net_text(STEP)}, "read_table": {"text": table_text(plain(3, 1))},
+    "read_web": {"text": web_text(WHOLE)}, "read_kind": {"text": "1*1,1"}, "whole_split": {"prime": None},
     "led_pairs": {"step": 0}}
 for name in ("joining_of", "is_joining_of"):
     IN_FUNCTIONS[name] = {"one": POINTS[0], "other": POINTS[1], "into": (empty(3, 1, 0), plain(3, 1)),
@@ -157,9 +213,11 @@ for name in ("joining_of", "is_joining_of"):
 
 # Which parameters are webs, and what is raised for others.
 NO_WEBS = {"bars": errors.NotLine, "ends": errors.NotLine, "shuttles": errors.NotStraight,
-           "pairforms": errors.NotPair, "pairmaps": errors.NotPair}
+           "pairforms": errors.NotPair, "pairmaps": errors.NotPair, "fourlines": errors.NotFour,
+           "fourforms": errors.NotFour}
 WEBS = {"one": ("maps", "mirrors", "likeness", "joinings", "probes", "middles", "shuttles")}
-WEBS_OF = ("is_bending", "shown_bending", "is_shown_bending", "carried", "fetched", "parted_by", "alike_by")
+WEBS_OF = ("is_bending", "shown_bending", "is_shown_bending", "carried", "fetched", "parted_by", "alike_by",
+           "hidden_map", "shown_map")
 
 
 def given(module, name, parameters):
@@ -180,6 +238,10 @@ def wanted_kinds(module, name):
         found["other"] = "net"
     if name == "map_from":
         found["column"] = "table"
+    if name == "table_text":
+        found["table"] = "table"
+    if name != "Loft":
+        found.update(loft="loft", whole="whole")
     if name == "block_joining":
         found["outer"] = found["inner"] = "web"
     return found
@@ -205,6 +267,22 @@ class InterfaceTest(unittest.TestCase):
             thing = getattr(importlib.import_module("boughwebs." + module), name)
             self.assertEqual(list(inspect.signature(thing).parameters), parameters, name)
 
+    def test_methods(self):
+        for (module, name), told in METHODS.items():
+            thing = getattr(importlib.import_module("boughwebs." + module), name)
+            with open(os.path.join(PACKAGE, module + ".py")) as file:
+                body = [item for item in ast.parse(file.read()).body if getattr(item, "name", "") == name][0].body
+            defined = [item.name for item in body if isinstance(item, ast.FunctionDef)]
+            for entry in told.split("; "):
+                method, parameters = entry[:-1].split("(")
+                self.assertIn(method, defined)
+                found = list(inspect.signature(getattr(thing, method)).parameters)
+                self.assertEqual(found, ["self"] + [key for key in parameters.split(", ") if key], method)
+
+    def test_whole_split_without_a_prime(self):
+        thing = importlib.import_module("boughwebs.wholesplits").whole_split
+        self.assertIsNone(inspect.signature(thing).parameters["prime"].default)
+
     def test_called_by_name_and_by_position(self):
         for module, name, parameters in functions():
             thing = getattr(importlib.import_module("boughwebs." + module), name)
@@ -223,12 +301,13 @@ class InterfaceTest(unittest.TestCase):
                 self.assertIsNot(found, again, name)
 
     def test_what_is_no_net_web_or_table_comes_first(self):
-        kinds = {"net": errors.BadNet, "web": errors.BadWeb, "table": errors.BadTable}
+        kinds = {"net": errors.BadNet, "web": errors.BadWeb, "table": errors.BadTable, "loft": errors.BadLoft,
+                 "whole": errors.BadWhole}
         seen = 0
         for module, name, parameters in functions():
             thing = getattr(importlib.import_module("boughwebs." + module), name)
             wanted = wanted_kinds(module, name)
-            if name in ("Web", "bare"):
+            if name in ("Web", "bare", "Whole"):
                 continue
             good = given(module, name, parameters)
             places = [key for key in parameters if key in wanted]
@@ -251,15 +330,17 @@ class InterfaceTest(unittest.TestCase):
 
     def test_equal_to_no_value_of_another_kind(self):
         web = point_web(PAIR, 3, 0)
-        things = [web, PAIR, web.tables[0], 1, True, None, "", (), [], {}, (PAIR, 3, (1, 0), web.tables)]
-        for at, one in enumerate(things[:3]):
+        desk = Desk(web_text(web))
+        things = [web, PAIR, web.tables[0], SIX, FADED, desk, 1, True, None, "", (), [], {},
+                  (PAIR, 3, (1, 0), web.tables)]
+        for at, one in enumerate(things[:6]):
             for k, other in enumerate(things):
                 self.assertIs(one == other, at == k)
                 self.assertIs(other == one, at == k)
                 self.assertIs(one != other, at != k)
 
     def test_cannot_be_iterated_over(self):
-        for thing in (PAIR, point_web(PAIR, 3, 0), plain(3, 1)):
+        for thing in (PAIR, point_web(PAIR, 3, 0), plain(3, 1), SIX, FADED, Loft(WHOLE)):
             with self.assertRaises(TypeError):
                 iter(thing)
 
@@ -267,7 +348,7 @@ class InterfaceTest(unittest.TestCase):
         kind = {(1, 1): 1, (1, 0): 1, (0, 1): 1}
         self.assertEqual(list(sum_kind(STEP, [kind])), [(0, 1), (1, 0), (1, 1)])
         self.assertEqual(list(kind), [(1, 1), (1, 0), (0, 1)])
-        for found in kinds_of(STEP, (3, 3)) + [general_kind(STEP, (2, 3))]:
+        for found in kinds_of(STEP, (3, 3)) + [general_kind(STEP, (2, 3)), part_tallies(STEP, kind)]:
             self.assertEqual(list(found), sorted(found))
 
 

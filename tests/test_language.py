@@ -15,7 +15,7 @@ BUILTINS = set("len range enumerate zip min max sum abs sorted reversed int str 
 METHODS = set("append clear copy count endswith extend find get index insert isalnum isalpha isdigit islower isspace "
               "isupper items join keys ljust lower lstrip partition pop remove replace reverse rfind rjust rpartition "
               "rsplit rstrip setdefault split splitlines startswith strip update upper values zfill "
-              "bit_length".split())
+              "bit_length isascii".split())
 LIBRARY = {"heapq": {"heappush", "heappop", "heapify", "heapreplace", "heappushpop"},
            "math": {"gcd", "lcm", "isqrt", "comb", "perm", "factorial"},
            "itertools": {"product", "combinations", "permutations", "chain", "accumulate", "pairwise", "islice",
@@ -70,6 +70,41 @@ def names_bound(function):
             yield node.id
         elif isinstance(node, ast.FunctionDef) and node is not function:
             yield node.name
+        elif isinstance(node, ast.ExceptHandler) and node.name is not None:
+            yield node.name
+
+
+def names_class(node):
+    """Whether the attribute is part of the name of an object's class, behind a name or an attribute."""
+    if node.attr == "__class__":
+        return getattr(node.above, "attr", "") == "__name__" and isinstance(node.value, (ast.Name, ast.Attribute))
+    return node.attr == "__name__" and getattr(node.value, "attr", "") == "__class__"
+
+
+def own_methods():
+    """The names of all methods of the package's classes."""
+    return {item.name for _, node in walked(ast.ClassDef) for item in node.body if isinstance(item, ast.FunctionDef)}
+
+
+def is_simple(node):
+    """What may stand on the right in a finally: names, attributes, literals without a sign, tuples of these."""
+    if isinstance(node, ast.Tuple):
+        return all(is_simple(item) for item in node.elts)
+    while isinstance(node, ast.Attribute):
+        node = node.value
+    return isinstance(node, (ast.Name, ast.Constant))
+
+
+def is_final(node):
+    """Whether the statement may stand in a finally."""
+    if isinstance(node, ast.If):
+        asked = node.test
+        told = isinstance(asked, ast.Compare) and isinstance(asked.ops[0], (ast.Is, ast.IsNot))
+        none = told and getattr(asked.comparators[0], "value", 0) is None
+        return none and is_simple(asked.left) and all(is_final(item) for item in node.body + node.orelse)
+    if isinstance(node, ast.Assign):
+        return is_simple(node.value) and all(is_simple(target) for target in node.targets)
+    return isinstance(node, ast.Pass)
 
 
 def docstrings(tree):
@@ -187,6 +222,8 @@ class NamesTest(unittest.TestCase):
             for node in ast.walk(tree):
                 told = [getattr(node, key, None) for key in ("id", "name", "arg", "attr")]
                 for word in [word for word in told if isinstance(word, str)]:
+                    if isinstance(node, ast.Attribute) and names_class(node):
+                        continue
                     fine = re.match(r"^(_?[A-Za-z][A-Za-z0-9_]*|_)$", word) or word in DOUBLE
                     self.assertTrue(fine, f"{name}: {word}")
                     self.assertIsNone(re.match(BARRED, word), name)
@@ -242,11 +279,30 @@ class StatementsTest(unittest.TestCase):
                     self.assertIn(repr(other.value), ("None", "True", "False"), where)
 
     def test_methods(self):
+        own = own_methods()
         for where, node in walked(ast.Call):
             if isinstance(node.func, ast.Attribute):
-                above = isinstance(node.func.value, ast.Call) and node.func.value.func.id == "super"
-                self.assertTrue(node.func.attr in METHODS or (above and node.func.attr == "__init__"), where)
+                above = isinstance(node.func.value, ast.Call) and getattr(node.func.value.func, "id", "") == "super"
+                known = METHODS | own - DOUBLE
+                self.assertTrue(node.func.attr in known or (above and node.func.attr == "__init__"), where)
                 self.assertEqual(node.keywords, [], where)
+
+    def test_methods_and_attributes_have_unlike_names(self):
+        own = own_methods()
+        for where, node in walked(ast.Attribute):
+            if isinstance(node.ctx, ast.Store):
+                self.assertNotIn(node.attr, own | METHODS, where)
+                self.assertIsInstance(node.value, ast.Name, where)
+            elif not names_class(node) and not (isinstance(node.above, ast.Call) and node.above.func is node):
+                self.assertNotIn(node.attr, own | METHODS, where)
+
+    def test_lengths(self):
+        for where, node in walked(ast.FunctionDef):
+            if node.name == "__len__":
+                told = [item for item in ast.walk(node) if isinstance(item, ast.Return)]
+                self.assertEqual([item.value.func.id for item in told], ["len"], where)
+            if node.name == "__init__":
+                self.assertFalse([item for item in ast.walk(node) if isinstance(item, ast.Return)], where)
 
     def test_classes(self):
         classes = {node.name for _, node in walked(ast.ClassDef)}
@@ -267,7 +323,8 @@ class StatementsTest(unittest.TestCase):
         errors = {item.name for name, tree in trees() if name == "errors.py" for item in tree.body
                   if isinstance(item, ast.ClassDef)}
         for where, node in walked(ast.Try):
-            self.assertEqual((node.finalbody, node.orelse), ([], []), where)
+            self.assertEqual(node.orelse, [], where)
+            self.assertTrue(all(is_final(item) for item in node.finalbody), where)
             for handler in node.handlers:
                 self.assertIn(getattr(handler.type, "id", None), errors | {"KeyError", "ZeroDivisionError"}, where)
 
@@ -288,6 +345,28 @@ class StatementsTest(unittest.TestCase):
                 taken = taker in TAKING and above.args[0] is node
                 both = taker in ("enumerate", "reversed", "zip", "len")
                 self.assertTrue(looped or taken or both, where)
+
+    def test_inner_comprehensions_have_names_of_their_own(self):
+        kinds = (ast.ListComp, ast.DictComp)
+        for where, node in walked(*kinds):
+            inner = {part.id for loop in node.generators for part in ast.walk(loop.target)
+                     if isinstance(part, ast.Name)}
+            outer, above, nested = set(), node.above, False
+            while not isinstance(above, ast.FunctionDef):
+                if isinstance(above, kinds):
+                    nested = True
+                    outer |= {part.id for loop in above.generators for part in ast.walk(loop.target)
+                              if isinstance(part, ast.Name)}
+                above = above.above
+            for part in ast.walk(above):
+                if isinstance(part, ast.Name) and isinstance(part.ctx, ast.Store):
+                    over = part.above
+                    while isinstance(over, (ast.Tuple, ast.List, ast.Name, ast.Starred)):
+                        over = over.above
+                    if not isinstance(over, ast.comprehension):
+                        outer.add(part.id)
+            outer |= {parameter.arg for parameter in above.args.args}
+            self.assertTrue(not nested or not inner & outer - {"_"}, f"{where} {sorted(inner & outer)}")
 
     def test_what_is_iterated_over_is_not_modified(self):
         for where, node in walked(ast.For):
