@@ -123,13 +123,9 @@ def _thin_of(row, logs, whole, known):
     return unpacked(above * first // (below * sum(row)))
 
 
-def _is_within(one, other):
-    return all([a <= b for a, b in zip(one, other)])
-
-
-def _lesser(goal, rows):
-    """Those of the rows that are nowhere above the goal, but not those of noughts and the goal itself."""
-    return [row for row in rows if any(row) and row != goal and _is_within(row, goal)]
+def _lesser(goal):
+    """All rows nowhere above the goal, but not those of noughts and the goal itself."""
+    return rows_up_to(goal)[1:-1]
 
 
 def _all_thin(net, row):
@@ -143,7 +139,7 @@ def _all_thin(net, row):
     for goal in rows_up_to(row)[1:]:
         pairs[goal] = _fading_pairs(net, goal, told)
         many = sum(goal) * pairs[goal]
-        for lesser in _lesser(goal, list(logs)):
+        for lesser in _lesser(goal):
             left = tuple([a - b for a, b in zip(goal, lesser)])
             many -= logs[lesser] * pairs[left] * _choices(known, goal, lesser)
         logs[goal] = many
@@ -163,14 +159,14 @@ def class_tally(net, row):
     check_net(net)
     _check_row(net, row)
     thin = _all_thin(net, row)
-    found = {tuple([0] * net.places): 1}
+    found = {}
     sums = {}
     for goal in thin:
         sums[goal] = sum(goal) * packed(thin[goal])
         for k, lesser in _divisors(goal):
             sums[goal] += sum(lesser) * _spread(thin[lesser], k)
         many = sums[goal]
-        for lesser in _lesser(goal, list(sums)):
+        for lesser in _lesser(goal):
             left = tuple([a - b for a, b in zip(goal, lesser)])
             many += sums[lesser] * found[left]
         found[goal] = many // sum(goal)

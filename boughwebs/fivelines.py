@@ -66,7 +66,7 @@ def double_of(web):
     check_web(web)
     _check_five(web.net == five_net())
     size = web.sizes[0]
-    _check_five(web.sizes == (size,) * LINES + (2 * size,) and size <= GREATEST_SIZE)
+    _check_five(web.sizes == (size,) * LINES + (2 * size,))
     back = inverse(beside([web.tables[0], web.tables[1]]))
     _check_five(back is not None)
     third = _halves(times(back, web.tables[2]))

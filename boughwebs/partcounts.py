@@ -83,7 +83,6 @@ def _parts_of_next(net, last, parts, middle, root):
 def _parts_of_roots(net, wanted):
     """The parts of the least webs of all roots of the loom, up to the last one that is wanted."""
     spots = {(place, turn): root for place, turn, root in loom(net)}
-    zero = tuple([0] * net.places)
     left = {root: True for root in wanted}
     found = {}
     for (place, turn), root in spots.items():

@@ -66,10 +66,8 @@ def tally_sum(tallies):
     return found
 
 
-def product_of_tallies(one, other):
-    """The product, however long."""
-    if not one or not other:
-        return ()
+def _product(one, other):
+    """The product of two tallies that are not ()."""
     found = [0] * (len(one) + len(other) - 1)
     for at, number in enumerate(one):
         if number:
@@ -87,7 +85,7 @@ def tally_product(tallies):
         raise BadTally("the product has more than 2000 numbers")
     found = (1,)
     for tally in tallies:
-        found = product_of_tallies(found, tally)
+        found = _product(found, tally)
     return found
 
 

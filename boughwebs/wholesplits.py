@@ -26,12 +26,14 @@ def _further_copies(prime, spans, told, many):
     known = {}
     found = []
     for columns in told:
+        if len(found) == many:
+            return found
         rest = []
         for leading, some in zip(spans, columns):
             for column in some:
                 rest = rest + lessened(prime, leading, [number % prime for number in column])
         rest = lessened(prime, known, rest)
-        if len(found) < many and any(rest):
+        if any(rest):
             known = reduced_vectors(prime, list(known.values()) + [rest])
             found.append(columns)
     return found

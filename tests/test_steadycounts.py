@@ -167,6 +167,8 @@ class SteadyTallyTest(unittest.TestCase):
                     check_order(self, ladder_tally, {"net": PAIR, "prices": (-1, 1), "weights": None, "rows": rows},
                                 steps + [("rows", wrong, ("BadRow",))])
         self.assertEqual(error_of(ladder_tally, PAIR, (0, 0), None, rows), ("BadRow",))
+        self.assertEqual(ladder_tally(PAIR, (-1, 1), None, [(0, 12), (12, 0)]), (0,) * 288 + (1,))
+        self.assertEqual(error_of(ladder_tally, PAIR, (-1, 1), None, [(0, 12), (1, 1), (12, 0)]), ("BadRow",))
         self.assertEqual(error_of(steady_tally, RING, (1, 0, 0), None, (7, 7, 6)), ("TooMany", 400))
         self.assertIsNone(error_of(steady_tally, RING, (1, 0, 0), None, (7, 6, 6)))
         self.assertEqual(error_of(ladder_tally, RING, (1, 0, 0), None, [(7, 0, 0), (0, 7, 6)]), ("TooMany", 400))

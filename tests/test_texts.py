@@ -127,6 +127,7 @@ class WebTextTest(unittest.TestCase):
         web = Web(CLASH, 5, (1, 2, 0), [Table(5, 2, 1, [[1], [4]]), empty(5, 2, 0)])
         self.assertEqual(web_text(web=web), "places 3\narrow 0 1\narrow 2 1\nprime 5\nsizes 1 2 0\n1\n4\n\n\n")
         self.assertEqual(web_text(bare(ONE, 97, (60,))), "places 1\nprime 97\nsizes 60\n")
+        self.assertEqual(read_web("places 1\nprime 97\nsizes 60\n"), bare(ONE, 97, (60,)))
         draw = drawn(1642)
         for net in NETS:
             for _ in range(5):
