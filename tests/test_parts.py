@@ -257,6 +257,10 @@ class PartTest(unittest.TestCase):
         self.assertGreater(seen, 10)
         self.assertEqual(len(all_parts(bare(STAR, 2, (2, 2, 2, 3)))), 2000)
         self.assertEqual(len(all_parts(bare(STEP, 2, (5, 2)))), 1870)
+        line = Net(8, [(k, k + 1) for k in range(7)])
+        for place in range(8):
+            sizes = tuple(3 if k == place else 0 for k in range(8))
+            self.assertEqual(len(all_parts(bare(line, 31, sizes))), 1988)
 
     def test_errors_in_their_order(self):
         web = Web(STEP, 3, (1, 1), [plain(3, 1)])
