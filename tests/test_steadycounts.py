@@ -160,12 +160,13 @@ class SteadyTallyTest(unittest.TestCase):
                 steps = [("net", None, ("BadNet", None)), ("prices", prices, ("BadPrices",)),
                          ("weights", weights, ("BadWeights",))]
                 for row in WRONG_ROWS:
-                    check_order(self, steady_tally, {"net": PAIR, "prices": (-1, 1), "weights": None, "row": (12, 12)},
+                    check_order(self, steady_tally, {"net": PAIR, "prices": (-1, 1), "weights": None, "row": (1, 1)},
                                 steps + [("row", row, ("BadRow",))])
                 for wrong in (None, [], (), 3, [rows[0], None], great, [rows[0], rows[0]], [(0, 0)], [(0, 1), (0, 0)],
                               [(0, 12), (13, 0)], [(0, 7), (1, 6)], (0, 1), [[0, 1], [1, 0]], {}):
                     check_order(self, ladder_tally, {"net": PAIR, "prices": (-1, 1), "weights": None, "rows": rows},
                                 steps + [("rows", wrong, ("BadRow",))])
+        self.assertIsNone(error_of(steady_tally, PAIR, (-1, 1), None, (12, 12)))
         self.assertEqual(error_of(ladder_tally, PAIR, (0, 0), None, rows), ("BadRow",))
         self.assertEqual(ladder_tally(PAIR, (-1, 1), None, [(0, 12), (12, 0)]), (0,) * 288 + (1,))
         self.assertEqual(error_of(ladder_tally, PAIR, (-1, 1), None, [(0, 12), (1, 1), (12, 0)]), ("BadRow",))
