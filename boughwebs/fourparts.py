@@ -87,20 +87,20 @@ def _late_chart(prime, four, lines, picks, chart):
 
 
 def _raised(prime, word, level, piece, known):
-    """The piece, or the rest, of what was led on or back, as one of the four of this level."""
+    """The piece, or the rest, of what was led on or back, as one of the four of this level.
+
+    Known are the steps of the least fours of all names that have been raised at this level.
+    """
     four, told = level
     name, least, chart = piece
-    if name is None or name not in known:
-        step = stepped_back(prime, least) if word == "early" else stepped_on(prime, least)
-        if name is not None:
-            known[name] = step
-    else:
-        step = known[name]
+    if name not in known:
+        known[name] = stepped_back(prime, least) if word == "early" else stepped_on(prime, least)
+    after, _, picks = known[name]
     if word == "early":
-        more = _early_chart(prime, four, told, step[2], chart[LINES])
+        more = _early_chart(prime, four, told, picks, chart[LINES])
     else:
-        more = _late_chart(prime, four, told, step[2], chart)
-    return (None if name is None else (name[0] + 1, name[1]), step[0], more)
+        more = _late_chart(prime, four, told, picks, chart)
+    return (None if name is None else (name[0] + 1, name[1]), after, more)
 
 
 def _levels(prime, word, four):
